@@ -1,0 +1,1 @@
+"""Aliasrows: names that may be one cell."""

@@ -1,0 +1,229 @@
+"""What the tests share: TABLES and ROWS, and all of DOC.md's points 3 to 6 found by going through everything.
+
+Nothing here calls the package: what it tells is read off the definitions alone.
+"""
+
+import functools
+import itertools
+import random
+import unittest
+
+BOUND = 10 ** 30
+
+
+class Case(unittest.TestCase):
+    """A test case that tells tuples from lists and True from 1."""
+
+    def same(self, got, wanted, told=None):
+        self.assertEqual(repr(got), repr(wanted), told)
+
+    def refused(self, error, call, *args, **attributes):
+        """The call raises just this error, with just these attributes."""
+        with self.assertRaises(error) as caught:
+            call(*args)
+        self.assertIs(type(caught.exception), error)
+        for name, value in attributes.items():
+            self.same(getattr(caught.exception, name), value)
+
+
+def as_lists(value):
+    """The value with lists in the place of tuples, at any depth."""
+    if isinstance(value, (list, tuple)):
+        return [as_lists(part) for part in value]
+    return value
+
+
+def as_tuples(value):
+    """The value with tuples in the place of lists, at any depth."""
+    if isinstance(value, (list, tuple)):
+        return tuple(as_tuples(part) for part in value)
+    return value
+
+
+def in_turns(value, as_list):
+    """The value with lists and tuples in turns, level by level."""
+    if isinstance(value, (list, tuple)):
+        parts = [in_turns(part, not as_list) for part in value]
+        return parts if as_list else tuple(parts)
+    return value
+
+
+def nested(levels, inner=(), kind=tuple):
+    """A value that is nested so many levels deep."""
+    value = inner
+    for _ in range(levels - 1):
+        value = kind([value])
+    return value
+
+
+def spoiled(value, spoil):
+    """All values that come of it by one change: spoil(part) in the place of a part, the whole included."""
+    yield spoil(value)
+    if isinstance(value, (list, tuple)):
+        for place, part in enumerate(value):
+            for fresh in spoiled(part, spoil):
+                yield type(value)([*value[:place], fresh, *value[place + 1:]])
+
+
+# Points 3 to 5: SAMENESSES.
+
+def home_of(sameness):
+    return {name: cell for cell in sameness for name in cell}
+
+
+@functools.lru_cache(maxsize=None)
+def partitions(names):
+    """All ways to lay names into cells, ascending, by giving each name a number of a cell."""
+    found = set()
+    for cells in itertools.product(range(len(names)), repeat=len(names)):
+        parts = {}
+        for name, cell in zip(names, cells):
+            parts.setdefault(cell, []).append(name)
+        found.add(tuple(sorted(tuple(sorted(part)) for part in parts.values())))
+    return sorted(found)
+
+
+@functools.lru_cache(maxsize=None)
+def samenesses(table):
+    """All SAMENESSES, ascending; none if the pairs gainsay one another."""
+    names, ones, aparts = table
+    found = []
+    for cells in partitions(names):
+        home = home_of(cells)
+        if all(home[x] == home[y] for x, y in ones) and all(home[x] != home[y] for x, y in aparts):
+            found.append(cells)
+    return found
+
+
+def within(first, second):
+    return all(any(set(cell) <= set(other) for other in second) for cell in first)
+
+
+def together(table, one, other):
+    """In how many SAMENESSES both are in one cell, and how many SAMENESSES there are."""
+    found = samenesses(table)
+    return sum(home_of(cells)[one] == home_of(cells)[other] for cells in found), len(found)
+
+
+def word_of(table, one, other):
+    joined, every = together(table, one, other)
+    return "one" if joined == every else "apart" if joined == 0 else "open"
+
+
+def pairs_of(table, word):
+    return tuple(pair for pair in itertools.combinations(table[0], 2) if word_of(table, *pair) == word)
+
+
+def hung(table):
+    """The lumps, by going along the pairs of ones from name to name."""
+    found = set()
+    for name in table[0]:
+        reached, old = {name}, set()
+        while reached != old:
+            old = set(reached)
+            for pair in table[1]:
+                if reached & set(pair):
+                    reached |= set(pair)
+        found.add(tuple(sorted(reached)))
+    return tuple(sorted(found))
+
+
+# Point 6: ROWS.
+
+def put_behind(row, sameness, name):
+    """The place of the last put of the row into the cell of this name; None if there is none."""
+    home = home_of(sameness)
+    for place in reversed(range(len(row))):
+        if row[place][0] == "put" and home[row[place][1]] == home[name]:
+            return place
+    return None
+
+
+def put_told(row, sameness, spot):
+    """The place of the put that the get with this spot finds; None if it finds none."""
+    for place, deed in enumerate(row):
+        if deed[0] == "get" and deed[2] == spot:
+            return put_behind(row[:place], sameness, deed[1])
+    raise AssertionError(spot)
+
+
+def number_of(row, place):
+    return None if place is None else row[place][2]
+
+
+def spots(row):
+    return sorted(deed[2] for deed in row if deed[0] == "get")
+
+
+def left_behind(row, sameness):
+    pairs = [(name, number_of(row, put_behind(row, sameness, name))) for name in home_of(sameness)]
+    return tuple(sorted(pair for pair in pairs if pair[1] is not None))
+
+
+def outcome_of(row, sameness):
+    pairs = [(spot, number_of(row, put_told(row, sameness, spot))) for spot in spots(row)]
+    return tuple(pair for pair in pairs if pair[1] is not None), left_behind(row, sameness)
+
+
+# TABLES and ROWS to try.
+
+def tables_of(names):
+    """All TABLES of these names."""
+    pairs = list(itertools.combinations(names, 2))
+    for words in itertools.product(("one", "apart", "open"), repeat=len(pairs)):
+        ones = tuple(pair for pair, word in zip(pairs, words) if word == "one")
+        aparts = tuple(pair for pair, word in zip(pairs, words) if word == "apart")
+        if samenesses((names, ones, aparts)):
+            yield names, ones, aparts
+
+
+def drawn_table(draw, names):
+    """A TABLE of these names: pairs told as long as some SAMENESS is left."""
+    ones, aparts = [], []
+    for pair in itertools.combinations(names, 2):
+        told = draw.choice((ones, aparts, aparts, None, None, None))
+        if told is not None:
+            told.append(pair)
+            if not samenesses((names, tuple(ones), tuple(aparts))):
+                told.pop()
+    return names, tuple(ones), tuple(aparts)
+
+
+@functools.lru_cache(maxsize=None)
+def some_tables():
+    """All TABLES of one to three names, and listed and drawn ones of up to six."""
+    found = [table for names in (("q",), ("p", "q"), ("a", "b", "c")) for table in tables_of(names)]
+    names = ("a", "b", "c", "d", "e", "f")
+    found += [(names[:4], (("a", "b"),), (("b", "c"),)), (names, (), ()), (names, (), (("a", "f"),))]
+    found += [(names, (("a", "f"), ("b", "e"), ("c", "d"), ("c", "e")), ()), (names[:3], (("a", "c"), ("b", "c")), ())]
+    found += [(names, (), tuple(itertools.combinations(names, 2)))]
+    draw = random.Random(4)
+    words = ("a", "aa", "ab", "b", "ba", "k", "zz", "abcdefgh", "zzzzzzzz")
+    for many in (4, 4, 4, 4, 4, 4, 5, 5, 5, 5, 5, 5, 6, 6, 6, 6):
+        found.append(drawn_table(draw, tuple(sorted(draw.sample(words, many)))))
+    return tuple(found)
+
+
+def drawn_row(draw, table, many):
+    """A ROW of so many DEEDS."""
+    numbers = (0, 1, 1, 2, -1, -2, BOUND, -BOUND)
+    free = ["s", "t", "u", "a", "b", "zzzzzzzz", "st", "us", "v", "w"]
+    draw.shuffle(free)
+    row = []
+    for _ in range(many):
+        name = draw.choice(table[0])
+        if draw.random() < 0.55:
+            row.append(("put", name, draw.choice(numbers)))
+        else:
+            row.append(("get", name, free.pop()))
+    return tuple(row)
+
+
+@functools.lru_cache(maxsize=None)
+def some_rows():
+    """Pairs of a TABLE and a ROW of it, of none to eight DEEDS."""
+    draw = random.Random(6)
+    found = []
+    for table in some_tables():
+        found += [(table, drawn_row(draw, table, many)) for many in (0, 1, draw.randrange(2, 8), 8)]
+    return tuple(found)

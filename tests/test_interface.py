@@ -1,0 +1,70 @@
+"""Point 19, and point 2 on error classes: what is defined where, and under which names."""
+
+import ast
+import importlib
+import pathlib
+
+from aliasrows import errors
+from tests.helper import BOUND, Case
+
+FUNCTIONS = {
+    "tables": """is_table, names_of, lumps, lump_of, surely_one, surely_apart, may_be_one, told_of, maybe_with,
+        open_pairs, with_name, without_name, with_one, with_apart, without_pair, renamed, filled, same_tables""",
+    "samenesses": """is_sameness, finest, coarsest, all_samenesses, how_many_samenesses, nth_sameness,
+        number_of_sameness, how_many_with, fewest_cells, a_fewest, cell_of, are_one, joined_by, can_join,
+        great_joins, lies_within, met, put_as_one, between""",
+    "rows": """is_row, names_in, spots_of, puts_of, gets_of, outcome, told_at, left_at, left_along, read_from,
+        left_from, lost_puts, all_outcomes, how_many_outcomes, samenesses_for, row_behind, without_places,
+        beginnings""",
+}
+ERRORS = {
+    "NoName": (LookupError, "name"), "NoSpot": (LookupError, "spot"), "NoNumber": (LookupError, "number"),
+    "Known": (ValueError, "name"), "CanNot": (ValueError, None), "Unfit": (ValueError, None),
+    "BadText": (ValueError, None), "BadLine": (ValueError, "number"),
+}
+
+
+def defined(file, kind):
+    """The names that the file defines by statements of this kind, not within others."""
+    module = importlib.import_module("aliasrows." + file)
+    tree = ast.parse(pathlib.Path(module.__file__).read_text(encoding="utf-8"))
+    return [part.name for part in tree.body if isinstance(part, kind)]
+
+
+class Interface(Case):
+    def test_functions_are_defined_in_their_files(self):
+        for file, names in FUNCTIONS.items():
+            there = defined(file, ast.FunctionDef)
+            module = importlib.import_module("aliasrows." + file)
+            for name in names.replace(",", " ").split():
+                with self.subTest(file=file, name=name):
+                    self.assertIn(name, there)
+                    self.assertEqual(getattr(module, name).__name__, name)
+
+    def test_errors_are_defined_in_their_file(self):
+        there = defined("errors", ast.ClassDef)
+        for name in ERRORS:
+            self.assertIn(name, there)
+
+    def test_errors_are_direct_subclasses(self):
+        for name, (base, _) in ERRORS.items():
+            self.assertEqual(getattr(errors, name).__bases__, (base,), name)
+
+    def test_errors_keep_their_values(self):
+        for name, (_, attribute) in ERRORS.items():
+            kind = getattr(errors, name)
+            if attribute is None:
+                self.assertIsInstance(kind(), kind)
+                continue
+            for value in ("x", "", "a b", 0, -1, BOUND, 10 ** 5000):
+                self.assertTrue(getattr(kind(value), attribute) == value, name)
+                self.assertTrue(getattr(kind(**{attribute: value}), attribute) == value, name)
+
+    def test_errors_are_caught_by_their_names(self):
+        for name, (base, attribute) in ERRORS.items():
+            kind = getattr(errors, name)
+            for caught in (kind, base):
+                with self.assertRaises(caught):
+                    raise kind() if attribute is None else kind("x")
+            others = tuple(getattr(errors, other) for other in ERRORS if other != name)
+            self.assertNotIsInstance(kind() if attribute is None else kind("x"), others)

@@ -1,0 +1,207 @@
+"""Points 1 and 2: the rules that hold for every function."""
+
+import copy
+import inspect
+import itertools
+
+from aliasrows import rows, samenesses, tables
+from aliasrows.errors import CanNot, Known, NoName, NoNumber, NoSpot, Unfit
+from tests.helper import Case, as_lists, in_turns, some_rows
+from tests.test_interface import FUNCTIONS
+
+TABLE = (("a", "b", "c", "d"), (("a", "b"),), (("b", "c"),))
+OTHER = (("a", "b", "c", "d"), (("a", "b"),), (("a", "c"), ("b", "c")))
+ROW = (("put", "a", 5), ("get", "d", "s"), ("put", "c", 7), ("get", "b", "t"), ("put", "d", 7))
+NEAR, FAR, APART = (("a", "b"), ("c", "d")), (("a", "b", "d"), ("c",)), (("a", "b"), ("c",), ("d",))
+NEAR_OUTCOME = ((("t", 5),), (("a", 5), ("b", 5), ("c", 7), ("d", 7)))
+ONE_NAME = {"table": TABLE, "name": "a"}
+TWO_NAMES = {"table": TABLE, "one": "d", "other": "a"}
+BY = {"table": TABLE, "row": ROW, "sameness": NEAR}
+
+# For each function what it is handed, by the names of point 4, 5 or 6, in their order.
+CALLS = (
+    (tables.is_table, {"thing": TABLE}),
+    (tables.names_of, {"table": TABLE}),
+    (tables.lumps, {"table": TABLE}),
+    (tables.lump_of, ONE_NAME),
+    (tables.surely_one, TWO_NAMES),
+    (tables.surely_apart, {"table": TABLE, "one": "a", "other": "c"}),
+    (tables.may_be_one, TWO_NAMES),
+    (tables.told_of, TWO_NAMES),
+    (tables.maybe_with, ONE_NAME),
+    (tables.open_pairs, {"table": TABLE}),
+    (tables.with_name, {"table": TABLE, "name": "aa"}),
+    (tables.without_name, ONE_NAME),
+    (tables.with_one, TWO_NAMES),
+    (tables.with_apart, TWO_NAMES),
+    (tables.without_pair, {"table": TABLE, "one": "b", "other": "a"}),
+    (tables.renamed, {"table": TABLE, "pairs": (("a", "z"), ("q", "b"), ("b", "a"))}),
+    (tables.filled, {"table": TABLE}),
+    (tables.same_tables, {"table": TABLE, "second": OTHER}),
+    (samenesses.is_sameness, {"table": TABLE, "thing": NEAR}),
+    (samenesses.finest, {"table": TABLE}),
+    (samenesses.coarsest, {"table": TABLE}),
+    (samenesses.all_samenesses, {"table": TABLE}),
+    (samenesses.how_many_samenesses, {"table": TABLE}),
+    (samenesses.nth_sameness, {"table": TABLE, "number": 1}),
+    (samenesses.number_of_sameness, {"table": TABLE, "sameness": FAR}),
+    (samenesses.how_many_with, {"table": TABLE, "many": 2}),
+    (samenesses.fewest_cells, {"table": TABLE}),
+    (samenesses.a_fewest, {"table": TABLE}),
+    (samenesses.cell_of, {"table": TABLE, "sameness": NEAR, "name": "c"}),
+    (samenesses.are_one, {"table": TABLE, "sameness": NEAR, "one": "c", "other": "d"}),
+    (samenesses.joined_by, {"table": TABLE, "some": ("a", "d")}),
+    (samenesses.can_join, {"table": TABLE, "some": ("a", "d")}),
+    (samenesses.great_joins, {"table": TABLE}),
+    (samenesses.lies_within, {"first": APART, "second": NEAR}),
+    (samenesses.met, {"first": NEAR, "second": FAR}),
+    (samenesses.put_as_one, {"table": TABLE, "first": APART, "second": NEAR}),
+    (samenesses.between, {"table": TABLE, "first": APART, "second": NEAR}),
+    (rows.is_row, {"table": TABLE, "thing": ROW}),
+    (rows.names_in, {"row": ROW}),
+    (rows.spots_of, {"row": ROW}),
+    (rows.puts_of, {"row": ROW}),
+    (rows.gets_of, {"row": ROW}),
+    (rows.outcome, BY),
+    (rows.told_at, {**BY, "spot": "t"}),
+    (rows.left_at, {**BY, "name": "c"}),
+    (rows.left_along, BY),
+    (rows.read_from, {**BY, "spot": "t"}),
+    (rows.left_from, {**BY, "name": "c"}),
+    (rows.lost_puts, BY),
+    (rows.all_outcomes, {"table": TABLE, "row": ROW}),
+    (rows.how_many_outcomes, {"table": TABLE, "row": ROW}),
+    (rows.samenesses_for, {"table": TABLE, "row": ROW, "pair": NEAR_OUTCOME}),
+    (rows.row_behind, {"first": ROW, "second": (("get", "c", "u"), ("put", "a", 0))}),
+    (rows.without_places, {"row": ROW, "places": (1, 3)}),
+    (rows.beginnings, {"row": ROW}),
+)
+
+# Calls that raise, with what they raise.
+REFUSED = (
+    (tables.lump_of, (TABLE, "x"), NoName, {"name": "x"}),
+    (tables.told_of, (TABLE, "y", "x"), NoName, {"name": "y"}),
+    (tables.with_name, (TABLE, "a"), Known, {"name": "a"}),
+    (tables.with_one, (TABLE, "a", "c"), Unfit, {}),
+    (tables.with_apart, (TABLE, "a", "b"), Unfit, {}),
+    (tables.renamed, (TABLE, (("a", "c"),)), Unfit, {}),
+    (samenesses.nth_sameness, (TABLE, 3), NoNumber, {"number": 3}),
+    (samenesses.cell_of, (TABLE, NEAR, "x"), NoName, {"name": "x"}),
+    (samenesses.joined_by, (TABLE, ("a", "c", "x")), NoName, {"name": "x"}),
+    (samenesses.joined_by, (TABLE, ("a", "c")), CanNot, {}),
+    (rows.told_at, (TABLE, ROW, NEAR, "u"), NoSpot, {"spot": "u"}),
+    (rows.left_from, (TABLE, ROW, NEAR, "s"), NoName, {"name": "s"}),
+    (rows.row_behind, (ROW, ROW[3:]), Unfit, {}),
+    (rows.without_places, (ROW, (1, 5, 6)), NoNumber, {"number": 5}),
+)
+
+
+def variants(handed):
+    """What is handed in, with lists for tuples in several ways; never in a thing."""
+    for change in (as_lists, lambda value: in_turns(value, True), lambda value: in_turns(value, False),
+                   lambda value: list(value) if isinstance(value, tuple) else value):
+        yield {name: value if name == "thing" else change(value) for name, value in handed.items()}
+
+
+def spoil(value):
+    """Change the list, and each list in it, in every way."""
+    if isinstance(value, list):
+        for part in value:
+            spoil(part)
+        value.reverse()
+        value.append("spoiled")
+        value[0] = "spoiled"
+
+
+def holds_list(value):
+    return isinstance(value, list) or isinstance(value, tuple) and any(holds_list(part) for part in value)
+
+
+class Rules(Case):
+    def test_every_function_is_called_here(self):
+        names = [name for listed in FUNCTIONS.values() for name in listed.replace(",", " ").split()]
+        self.assertEqual([call.__name__ for call, _ in CALLS], names)
+
+    def test_by_position_and_by_names(self):
+        for call, handed in CALLS:
+            wanted = call(*handed.values())
+            self.same(call(**handed), wanted, call)
+            self.same(call(**dict(reversed(list(handed.items())))), wanted, call)
+            self.same(call(*list(handed.values())[:1], **dict(list(handed.items())[1:])), wanted, call)
+            self.same(list(inspect.signature(call).parameters)[:len(handed)], list(handed), call)
+
+    def test_lists_for_tuples(self):
+        for call, handed in CALLS:
+            wanted = call(*handed.values())
+            for other in variants(handed):
+                self.same(call(*other.values()), wanted, (call, other))
+                self.same(call(**other), wanted, (call, other))
+
+    def test_lists_are_no_tuples_in_a_thing(self):
+        for call, handed in CALLS:
+            if "thing" in handed:
+                self.same(call(**handed), True, call)
+                for change in (as_lists, lambda value: in_turns(value, True), lambda value: in_turns(value, False)):
+                    self.same(call(**{**handed, "thing": change(handed["thing"])}), False, call)
+
+    def test_lists_for_tuples_of_rows(self):
+        for table, row in some_rows():
+            many, turns = as_lists(row), in_turns(row, False)
+            for call in (rows.names_in, rows.spots_of, rows.puts_of, rows.gets_of, rows.beginnings):
+                self.same(call(many), call(row))
+                self.same(call(turns), call(row))
+            self.same(rows.how_many_outcomes(as_lists(table), many), rows.how_many_outcomes(table, row))
+            self.same(rows.row_behind(many, []), row)
+            self.same(rows.row_behind((), turns), row)
+            self.same(rows.without_places(many, []), row)
+
+    def test_arguments_stay_as_they_are(self):
+        for call, handed in CALLS:
+            for other in variants(handed):
+                kept = copy.deepcopy(other)
+                call(**other)
+                self.same(other, kept, call)
+
+    def test_refused_calls_change_nothing(self):
+        for call, handed, error, attributes in REFUSED:
+            other = as_lists(handed)
+            kept = copy.deepcopy(other)
+            self.refused(error, call, *handed, **attributes)
+            self.refused(error, call, *other, **attributes)
+            self.same(other, kept, call)
+
+    def test_returned_lists_belong_to_the_caller(self):
+        for call, handed in CALLS:
+            for other in (handed, *variants(handed)):
+                wanted = call(**handed)
+                told = repr(wanted)
+                kept = copy.deepcopy(other)
+                spoil(call(**other))
+                spoil(wanted)
+                self.same(other, kept, call)
+                self.assertEqual(repr(call(**other)), told, call)
+
+    def test_changed_arguments_change_no_result(self):
+        for call, handed in CALLS:
+            for other in variants(handed):
+                got = call(**other)
+                told = repr(got)
+                for value in other.values():
+                    spoil(value)
+                self.assertEqual(repr(got), told, call)
+
+    def test_results_are_lists_of_what_holds_none(self):
+        for call, handed in CALLS:
+            got = call(**next(variants(handed)))
+            for part in got if isinstance(got, list) else [got]:
+                self.assertFalse(holds_list(part), call)
+
+    def test_what_is_returned_may_be_handed_in(self):
+        for first, second in itertools.combinations(samenesses.all_samenesses(TABLE), 2):
+            self.same(samenesses.lies_within(samenesses.met(first, second), second), True)
+        for begun in rows.beginnings(ROW):
+            for pair in rows.all_outcomes(TABLE, begun):
+                for sameness in rows.samenesses_for(TABLE, begun, pair):
+                    self.same(rows.outcome(TABLE, begun, sameness), pair)
+        self.same(tables.same_tables(tables.filled(TABLE), TABLE), True)
+        self.same(rows.row_behind(rows.without_places(ROW, rows.gets_of(ROW)), ()), ROW[::2])
