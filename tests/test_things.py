@@ -11,12 +11,14 @@ TABLE = (("a", "b", "c", "d"), (("a", "b"),), (("b", "c"),))
 CELLS = (("a", "b"), ("c", "d"))
 ROW = (("put", "a", 5), ("get", "d", "s"), ("put", "c", -7), ("get", "b", "t"))
 HUGE = 10 ** 5000
-DEEP = (nested(12), nested(12, [], list), nested(12, ("a",)), nested(11, ("put", "a", 1)), nested(10, CELLS))
-ODD = (None, True, False, "", "A", "abcdefghi", "a b", "a1", "\u00e9", "\uff41", "\u00df", "a\n", [], ["a"], [["a", "b"]],
-       ((),), ("a", 1), ("a", None), (("a", "b", "c"),), (("a",),)) + DEEP
+DEEP = (nested(12), nested(12, [], list), nested(12, ("a",)), nested(12, ("put", "a", 1)), nested(11, CELLS))
+ODD = (None, True, False, "", "A", "abcdefghi", "a b", "a1", "\u00e9", "\uff41", "\u00df", "a\n", [], ["a"],
+       [["a", "b"]], ((),), ("a", 1), ("a", None), (("a", "b", "c"),), (("a",),))
+# Within a thing three levels deep these make twelve.
+INNER = (nested(9), nested(9, [], list), nested(9, ("a",)), nested(8, CELLS))
 WORDS = ("abcdefgh", "z", "zzzzzzzz", "a", "mn")
-BAD_WORDS = ("", "abcdefghi", "A", "aB", "a1", "a ", " a", "a_", "a-b", "\u00e9", "a\u0300", "\uff41", "\u0430", "`", "{",
-             "\u00df", "a\n", "\n", "a" * 100000, 0, 1, True, None, ("a",), ["a"], (), [])
+BAD_WORDS = ("", "abcdefghi", "A", "aB", "a1", "a ", " a", "a_", "a-b", "\u00e9", "a\u0300", "\uff41", "\u0430", "`",
+             "{", "\u00df", "a\n", "\n", "a" * 100000, 0, 1, True, None, ("a",), ["a"], (), [])
 
 
 def long_names(many):
@@ -41,7 +43,8 @@ class Any(Case):
 
     def check_odd(self, call, *ahead):
         """Whatever is none of the three is told to be none, without an error."""
-        for thing in ODD + (0, 1, -1, HUGE, "a", "put", (1, 2, 3), [1, "a", None], (None,) * 3, ((), (), ()), [[], [], []]):
+        for thing in ODD + DEEP + (0, 1, -1, HUGE, "a", "put", (1, 2, 3), [1, "a", None], (None,) * 3, ((), (), ()),
+                                   [[], [], []]):
             self.no(call, *ahead, thing)
         for thing in (nested(12, None), [nested(11, True)] * 1000, ("a",) * 100000, (("a",),) * 100000, (0,) * 100000):
             self.no(call, *ahead, thing)
@@ -49,7 +52,7 @@ class Any(Case):
     def check_spoiled(self, call, thing, *ahead):
         """One part changed makes it none: whatever odd thing stands there, or a list for a tuple."""
         self.yes(call, *ahead, thing)
-        for odd in ODD:
+        for odd in ODD + INNER:
             for other in spoiled(thing, lambda part: odd):
                 self.no(call, *ahead, other)
         for other in spoiled(thing, lambda part: list(part) if isinstance(part, tuple) else None):
@@ -94,8 +97,9 @@ class IsTable(Any):
     def test_pairs(self):
         names = ("a", "b", "c")
         for pairs in ((("b", "a"),), (("a", "a"),), (("a", "x"),), (("x", "y"),), (("a", "b"), ("a", "b")), ("ab",),
-                      (("b", "c"), ("a", "b")), (("a", "c"), ("a", "b")), (("a",),), (("a", "b", "c"),), ((),), ("a", "b"),
-                      (("a", True),), ((0, 1),), ((None, "b"),), (("a", "b"), ("a", 1)), (["a", "b"],), ((("a",), "b"),)):
+                      (("b", "c"), ("a", "b")), (("a", "c"), ("a", "b")), (("a",),), (("a", "b", "c"),), ((),),
+                      ("a", "b"), (("a", True),), ((0, 1),), ((None, "b"),), (("a", "b"), ("a", 1)), (["a", "b"],),
+                      ((("a",), "b"),)):
             self.no(is_table, (names, pairs, ()))
             self.no(is_table, (names, (), pairs))
         self.no(is_table, (names, (("a", "b"), ("b", "c")), (("a", "c"),)))
@@ -169,8 +173,7 @@ class IsSameness(Any):
 class IsRow(Any):
     def test_odd_things(self):
         for table in (TABLE, as_lists(TABLE), (("q",), (), ())):
-            odd = [thing for thing in ODD if thing != ()]
-            for thing in odd + [0, HUGE, "a", "put", ("put", "a", 1), ("put",), (("put", "a"),), ((),), (None,) * 3]:
+            for thing in ODD + DEEP + (0, HUGE, "a", "put", ("put", "a", 1), ("put",), (("put", "a"),), (None,) * 3):
                 self.no(is_row, table, thing)
             for thing in (nested(12, None), [("put", "a", 1)] * 9, ("a",) * 100000, (("get", "a", "s"),) * 100000):
                 self.no(is_row, table, thing)
