@@ -43,3 +43,8 @@ def set_of(things):
 def is_part(some, others):
     """Whether each of some is among the others."""
     return all([one in others for one in some])
+
+
+def is_within_another(some, sets):
+    """Whether some lies within an unlike one of the sets."""
+    return any([some != other and is_part(some, other) for other in sets])

@@ -71,9 +71,16 @@ def sources(row, sameness):
     return told, left
 
 
-def _number_at(row, place):
+def number_at(row, place):
     """The number that is put at this place; None if the place is None."""
     return None if place is None else row[place][2]
+
+
+def values_by(row, sameness):
+    """Two dicts: for each spot, and for each name behind all DEEDS, the value there: its number, or None."""
+    told, left = sources(row, sameness)
+    told_values = {spot: number_at(row, told[spot]) for spot in told}
+    return told_values, {name: number_at(row, left[name]) for name in left}
 
 
 def _numbers(row, places):
@@ -89,12 +96,12 @@ def outcome(table, row, sameness):
 
 def told_at(table, row, sameness, spot):
     """The number that is told at this spot; None if none is."""
-    return _number_at(row, read_from(table, row, sameness, spot))
+    return number_at(row, read_from(table, row, sameness, spot))
 
 
 def left_at(table, row, sameness, name):
     """The number that is left in the cell of this name; None if none is."""
-    return _number_at(row, left_from(table, row, sameness, name))
+    return number_at(row, left_from(table, row, sameness, name))
 
 
 def left_along(table, row, sameness):

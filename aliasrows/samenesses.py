@@ -1,6 +1,8 @@
 """SAMENESSES: the ways in which the names of a TABLE can be one."""
 
-from aliasrows.basics import frozen, is_ascending, is_part, is_set_of_strings, set_of
+from itertools import combinations
+
+from aliasrows.basics import frozen, is_ascending, is_set_of_strings, is_within_another, set_of
 from aliasrows.errors import CanNot, NoNumber
 from aliasrows.tables import check_names, lumps, names_of
 
@@ -154,15 +156,26 @@ def _meets(some, others):
     return any([one in others for one in some])
 
 
+def little_joined(table):
+    """The list of the SAMENESSES with two or three lumps in one cell, or none, all other cells being lumps.
+
+    Those with more cells come first.
+    """
+    aparts = frozen(table)[2]
+    parts = list(lumps(table))
+    found = [tuple(parts)]
+    for many in range(2, 4):
+        for some in combinations(parts, many):
+            joined = _one_cell(some)
+            if _can_be_cell(joined, aparts):
+                found.append(tuple(sorted([joined] + [lump for lump in parts if lump not in some])))
+    return found
+
+
 def great_joins(table):
     """The ascending list of the greatest sets of names that some SAMENESS has in one cell."""
     cells = set_of([cell for sameness in all_samenesses(table) for cell in sameness])
-    return [cell for cell in cells if not _is_within_another(cell, cells)]
-
-
-def _is_within_another(cell, cells):
-    """Whether the cell lies within an unlike one of the cells."""
-    return any([cell != other and is_part(cell, other) for other in cells])
+    return [cell for cell in cells if not is_within_another(cell, cells)]
 
 
 def lies_within(first, second):

@@ -227,3 +227,92 @@ def some_rows():
     for table in some_tables():
         found += [(table, drawn_row(draw, table, many)) for many in (0, 1, draw.randrange(2, 8), 8)]
     return tuple(found)
+
+
+# Points 7 to 10: what is seen, and ROWS beside one another.
+
+def seen_at(table, row, spot):
+    """By each SAMENESS the place of the put that is seen at this spot, or None."""
+    return [put_told(row, cells, spot) for cells in samenesses(table)]
+
+
+def seen_left(table, row, name):
+    """By each SAMENESS the place of the put that is seen at this name, or None."""
+    return [put_behind(row, cells, name) for cells in samenesses(table)]
+
+
+def values_in_order(values):
+    """The tuple of unlike values: None at first, then the numbers."""
+    return tuple(sorted(set(values), key=lambda value: (value is not None, value or 0)))
+
+
+@functools.lru_cache(maxsize=None)
+def outcomes(table, row):
+    """By each SAMENESS the OUTCOME."""
+    return [outcome_of(row, cells) for cells in samenesses(table)]
+
+
+def do_the_same(table, row, second):
+    """Whether the OUTCOMES are the same by each SAMENESS; it stops at the first by which they are not."""
+    return all(outcome_of(second, cells) == told for cells, told in zip(samenesses(table), outcomes(table, row)))
+
+
+def partings(table, row, second):
+    """The SAMENESSES by which the OUTCOMES are unlike."""
+    return [cells for cells, one, other in zip(samenesses(table), outcomes(table, row), outcomes(table, second))
+            if one != other]
+
+
+def subsets(things):
+    """All sets of things, ascending."""
+    return sorted(some for many in range(len(things) + 1) for some in itertools.combinations(things, many))
+
+
+def near_row(draw, table, row):
+    """A ROW that is little unlike: DEEDS exchanged, left out, put twice, renamed, or given another number."""
+    row = list(row)
+    place = draw.randrange(len(row)) if row else 0
+    way = draw.randrange(7)
+    if way in (0, 1) and place + 1 < len(row):
+        row[place:place + 2] = [row[place + 1], row[place]]
+    elif way == 2:
+        del row[place:place + 1]
+    elif way == 3 and row and len(row) < 8 and row[place][0] == "put":
+        row.insert(place, row[place])
+    elif way == 4 and row:
+        word, name, last = row[place]
+        near = [other for other in table[0] if word_of(table, name, other) == "one"]
+        row[place] = (word, draw.choice(near + list(table[0])), last)
+    elif way == 5 and row and row[place][0] == "put":
+        row[place] = ("put", row[place][1], draw.choice((0, 1, 2)))
+    elif way == 6:
+        draw.shuffle(row)
+    return tuple(row)
+
+
+@functools.lru_cache(maxsize=None)
+def some_row_pairs():
+    """Triples of a TABLE and two ROWS of it, some of which do the same."""
+    draw = random.Random(8)
+    found = []
+    for table, row in some_rows():
+        near = near_row(draw, table, row)
+        found += [(table, row, near), (table, near, near_row(draw, table, near))]
+        found.append((table, row, drawn_row(draw, table, draw.randrange(7))))
+    for table in some_tables():
+        for trio in [*itertools.combinations(table[0], 3), table[0][:1] * 3][-7:]:
+            # Two puts and a get through three names: often unlike only where all three are one.
+            one, other, third = draw.sample(trio, 3)
+            late = tuple(("put", name, 9) for name in table[0])[:5]
+            puts = (("put", one, 1), ("put", other, 2))
+            get = (("get", third, "s"),)
+            found += [(table, puts + get + late, puts[::-1] + get + late), (table, puts + get, puts[::-1] + get)]
+            found += [(table, get + puts, puts + get), (table, puts + late, puts[::-1] + late)]
+    return tuple(found)
+
+
+@functools.lru_cache(maxsize=None)
+def foreign_cells():
+    """SAMENESSES of TABLES of six names, and others: handed in for a TABLE, most of them are none of it."""
+    found = list(partitions(tuple("abcdef")))[::29] + list(partitions(("a", "b", "c", "d")))
+    return tuple(found + [(), (("a",),), (("q",),), (("a", "b"), ("b", "c")), (("b",), ("a",)), ((), ("a",))])

@@ -16,6 +16,16 @@ FUNCTIONS = {
     "rows": """is_row, names_in, spots_of, puts_of, gets_of, outcome, told_at, left_at, left_along, read_from,
         left_from, lost_puts, all_outcomes, how_many_outcomes, samenesses_for, row_behind, without_places,
         beginnings""",
+    "sure": """seen_at, seen_left, empty_at, empty_left, values_at, values_left, sure_spots, sure_names, sure_told,
+        spots_seeing, names_seeing, never_seen, tellings, how_many_tell, sameness_for, sameness_left,
+        is_sameness_for, is_sameness_left""",
+    "beside": """same_rows, parting, is_parting, partings, fewest_joined, alike_spots, alike_names, unlike_spots,
+        unlike_names, tells_as_much, untold_pair, is_untold_pair, same_whatever, parting_ahead, is_parting_ahead""",
+    "orders": """is_order, row_of_order, pointing_of, is_pointing, orders_same, parting_sameness,
+        is_parting_sameness, all_pointings, how_many_pointings, nth_pointing, number_of_pointing, least_order,
+        how_many_orders, fewest_turns, turn_way, is_turn_way, free_places""",
+    "needless": """can_go, is_needless, needless_places, needed_by, is_needed_by, all_that_go, full_sets,
+        always_stay, most_gone, least_rest, dearest_gone, all_rests, gone_by_turns, twin_spots, spare_gets""",
 }
 ERRORS = {
     "NoName": (LookupError, "name"), "NoSpot": (LookupError, "spot"), "NoNumber": (LookupError, "number"),

@@ -4,7 +4,7 @@ import copy
 import inspect
 import itertools
 
-from aliasrows import rows, samenesses, tables
+from aliasrows import beside, needless, orders, rows, samenesses, sure, tables
 from aliasrows.errors import CanNot, Known, NoName, NoNumber, NoSpot, Unfit
 from tests.helper import Case, as_lists, in_turns, some_rows
 from tests.test_interface import FUNCTIONS
@@ -17,8 +17,18 @@ NEAR_OUTCOME = ((("t", 5),), (("a", 5), ("b", 5), ("c", 7), ("d", 7)))
 ONE_NAME = {"table": TABLE, "name": "a"}
 TWO_NAMES = {"table": TABLE, "one": "d", "other": "a"}
 BY = {"table": TABLE, "row": ROW, "sameness": NEAR}
+OF_ROW = {"table": TABLE, "row": ROW}
+SECOND = (("put", "c", 7), ("get", "d", "s"), ("put", "d", 7), ("get", "a", "t"), ("put", "b", 5))
+BOTH = {"table": TABLE, "row": ROW, "second": SECOND}
+AHEAD = (("get", "b", "u"), ("put", "d", 8))
+ORDER, TURNED = ("a", "c", "b", "d"), ("c", "a", "b", "d")
+POINTING = (("b", "c", "d"), (("b", "d"), ("c", "d")))
+OF_SOME = {"table": TABLE, "some": ("a", "b", "c", "d")}
+TWO_ORDERS = {"table": TABLE, "one": ORDER, "other": TURNED}
+ECHO = {"table": TABLE,
+        "row": (("put", "d", 5), ("put", "a", 5), ("put", "b", 5), ("get", "a", "s"), ("get", "b", "t"))}
 
-# For each function what it is handed, by the names of point 4, 5 or 6, in their order.
+# For each function what it is handed, by the names of point 4 to 10, in their order.
 CALLS = (
     (tables.is_table, {"thing": TABLE}),
     (tables.names_of, {"table": TABLE}),
@@ -75,6 +85,71 @@ CALLS = (
     (rows.row_behind, {"first": ROW, "second": (("get", "c", "u"), ("put", "a", 0))}),
     (rows.without_places, {"row": ROW, "places": (1, 3)}),
     (rows.beginnings, {"row": ROW}),
+    (sure.seen_at, {**OF_ROW, "spot": "t"}),
+    (sure.seen_left, {**OF_ROW, "name": "d"}),
+    (sure.empty_at, {**OF_ROW, "spot": "s"}),
+    (sure.empty_left, {**OF_ROW, "name": "c"}),
+    (sure.values_at, {**OF_ROW, "spot": "s"}),
+    (sure.values_left, {**OF_ROW, "name": "a"}),
+    (sure.sure_spots, OF_ROW),
+    (sure.sure_names, OF_ROW),
+    (sure.sure_told, OF_ROW),
+    (sure.spots_seeing, {**OF_ROW, "place": 0}),
+    (sure.names_seeing, {**OF_ROW, "place": 4}),
+    (sure.never_seen, OF_ROW),
+    (sure.tellings, {**OF_ROW, "spot": "s"}),
+    (sure.how_many_tell, {**OF_ROW, "spot": "s", "value": 5}),
+    (sure.sameness_for, {**OF_ROW, "spot": "s", "value": None}),
+    (sure.sameness_left, {**OF_ROW, "name": "a", "value": 7}),
+    (sure.is_sameness_for, {**OF_ROW, "spot": "s", "value": None, "thing": NEAR}),
+    (sure.is_sameness_left, {**OF_ROW, "name": "a", "value": 7, "thing": FAR}),
+    (beside.same_rows, BOTH),
+    (beside.parting, BOTH),
+    (beside.is_parting, {**BOTH, "thing": FAR}),
+    (beside.partings, BOTH),
+    (beside.fewest_joined, BOTH),
+    (beside.alike_spots, BOTH),
+    (beside.alike_names, BOTH),
+    (beside.unlike_spots, BOTH),
+    (beside.unlike_names, BOTH),
+    (beside.tells_as_much, BOTH),
+    (beside.untold_pair, BOTH),
+    (beside.is_untold_pair, {**BOTH, "thing": (APART, NEAR)}),
+    (beside.same_whatever, BOTH),
+    (beside.parting_ahead, BOTH),
+    (beside.is_parting_ahead, {**BOTH, "thing": AHEAD}),
+    (orders.is_order, {"table": TABLE, "thing": ORDER}),
+    (orders.row_of_order, {"table": TABLE, "order": ORDER}),
+    (orders.pointing_of, {"table": TABLE, "order": ORDER}),
+    (orders.is_pointing, {"table": TABLE, "thing": POINTING}),
+    (orders.orders_same, TWO_ORDERS),
+    (orders.parting_sameness, {"table": TABLE, "one": ORDER, "other": ("d", "a")}),
+    (orders.is_parting_sameness, {"table": TABLE, "one": ORDER, "other": ("d", "a"), "thing": NEAR}),
+    (orders.all_pointings, OF_SOME),
+    (orders.how_many_pointings, OF_SOME),
+    (orders.nth_pointing, {**OF_SOME, "number": 3}),
+    (orders.number_of_pointing, {**OF_SOME, "pointing": POINTING}),
+    (orders.least_order, {**OF_SOME, "pointing": POINTING}),
+    (orders.how_many_orders, {**OF_SOME, "pointing": POINTING}),
+    (orders.fewest_turns, TWO_ORDERS),
+    (orders.turn_way, TWO_ORDERS),
+    (orders.is_turn_way, {**TWO_ORDERS, "thing": (ORDER, TURNED)}),
+    (orders.free_places, {"table": TABLE, "order": ORDER}),
+    (needless.can_go, {**ECHO, "places": (1,)}),
+    (needless.is_needless, {**ECHO, "place": 2}),
+    (needless.needless_places, ECHO),
+    (needless.needed_by, {**OF_ROW, "place": 4}),
+    (needless.is_needed_by, {**OF_ROW, "place": 4, "thing": FAR}),
+    (needless.all_that_go, ECHO),
+    (needless.full_sets, ECHO),
+    (needless.always_stay, ECHO),
+    (needless.most_gone, ECHO),
+    (needless.least_rest, ECHO),
+    (needless.dearest_gone, {**ECHO, "prices": (3, 0, 4, 9, 9)}),
+    (needless.all_rests, ECHO),
+    (needless.gone_by_turns, {**ECHO, "turns": (4, 2, 1, 0)}),
+    (needless.twin_spots, ECHO),
+    (needless.spare_gets, ECHO),
 )
 
 # Calls that raise, with what they raise.
@@ -93,6 +168,21 @@ REFUSED = (
     (rows.left_from, (TABLE, ROW, NEAR, "s"), NoName, {"name": "s"}),
     (rows.row_behind, (ROW, ROW[3:]), Unfit, {}),
     (rows.without_places, (ROW, (1, 5, 6)), NoNumber, {"number": 5}),
+    (sure.seen_at, (TABLE, ROW, "u"), NoSpot, {"spot": "u"}),
+    (sure.seen_left, (TABLE, ROW, "s"), NoName, {"name": "s"}),
+    (sure.names_seeing, (TABLE, ROW, 1), NoNumber, {"number": 1}),
+    (sure.is_sameness_for, (TABLE, ROW, "u", 5, NEAR), NoSpot, {"spot": "u"}),
+    (sure.is_sameness_left, (TABLE, ROW, "u", 5, NEAR), NoName, {"name": "u"}),
+    (orders.pointing_of, (TABLE, ("a", "x", "y")), NoName, {"name": "x"}),
+    (orders.orders_same, (TABLE, ("a", "y"), ("x",)), NoName, {"name": "y"}),
+    (orders.is_turn_way, (TABLE, ("a",), ("a", "x"), ORDER), NoName, {"name": "x"}),
+    (orders.is_turn_way, (TABLE, ("a",), ("a", "b"), ORDER), Unfit, {}),
+    (orders.nth_pointing, (TABLE, ("a", "z"), 9), NoName, {"name": "z"}),
+    (orders.nth_pointing, (TABLE, ("a", "c"), 1), NoNumber, {"number": 1}),
+    (orders.least_order, (TABLE, ("z",), POINTING), NoName, {"name": "z"}),
+    (needless.can_go, (TABLE, ROW, (0, 5, 6)), NoNumber, {"number": 5}),
+    (needless.is_needed_by, (TABLE, ROW, -1, NEAR), NoNumber, {"number": -1}),
+    (needless.gone_by_turns, (TABLE, ROW, (0, 9, 5)), NoNumber, {"number": 9}),
 )
 
 
@@ -142,7 +232,9 @@ class Rules(Case):
             if "thing" in handed:
                 self.same(call(**handed), True, call)
                 for change in (as_lists, lambda value: in_turns(value, True), lambda value: in_turns(value, False)):
-                    self.same(call(**{**handed, "thing": change(handed["thing"])}), False, call)
+                    other = change(handed["thing"])
+                    # A tuple of strings alone holds no list, if lists begin one level below it.
+                    self.same(call(**{**handed, "thing": other}), not holds_list(other), call)
 
     def test_lists_for_tuples_of_rows(self):
         for table, row in some_rows():

@@ -89,6 +89,15 @@ class Lists(Case):
         star = (("h", "x", "y", "z"), (), (("x", "y"), ("x", "z"), ("y", "z")))
         self.same(package.great_joins(star), [("h", "x"), ("h", "y"), ("h", "z")])
 
+    def test_little_joined(self):
+        for table in some_tables():
+            counts = {cells: sorted(sum(set(lump) <= set(cell) for lump in hung(table)) for cell in cells)
+                      for cells in samenesses(table)}
+            little = [cells for cells, many in counts.items() if max(many) <= 3 and sum(many) - len(many) < max(many)]
+            found = package.little_joined(table)
+            self.same(sorted(found), little, table)
+            self.same([len(cells) for cells in found], sorted(map(len, found), reverse=True), table)
+
     def test_a_table_of_one_name(self):
         table, only = (("q",), (), ()), (("q",),)
         self.same(package.all_samenesses(table), [only])

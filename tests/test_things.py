@@ -42,7 +42,7 @@ class Any(Case):
         self.same(call(*args), True, args[-1:])
 
     def check_odd(self, call, *ahead):
-        """Whatever is none of the three is told to be none, without an error."""
+        """Whatever is nothing of what is asked for is told to be none, without an error."""
         for thing in ODD + DEEP + (0, 1, -1, HUGE, "a", "put", (1, 2, 3), [1, "a", None], (None,) * 3, ((), (), ()),
                                    [[], [], []]):
             self.no(call, *ahead, thing)
