@@ -48,3 +48,49 @@ def is_part(some, others):
 def is_within_another(some, sets):
     """Whether some lies within an unlike one of the sets."""
     return any([some != other and is_part(some, other) for other in sets])
+
+
+def swapped(things, place):
+    """The tuple of things with the one at this place and the next one exchanged."""
+    return (*things[:place], things[place + 1], things[place], *things[place + 2:])
+
+
+def swap_way(things, ranks):
+    """The tuple of the tuples that lead from things to those ordered by ranks, by as few exchanges of neighbours."""
+    # Each exchange puts two in order that were not: no way can be shorter, and what is in order is kept.
+    way = [things]
+    while True:
+        wrong = [place for place in range(len(ranks) - 1) if ranks[place] > ranks[place + 1]]
+        if wrong == []:
+            return tuple(way)
+        ranks = swapped(ranks, wrong[0])
+        way.append(swapped(way[-1], wrong[0]))
+
+
+def free_next(lined, things, arrows):
+    """The things that can stand next behind those lined up: each that an arrow leads from to them stands there."""
+    held = [behind for ahead, behind in arrows if ahead not in lined]
+    return [thing for thing in things if thing not in lined and thing not in held]
+
+
+def lined_up(things, arrows):
+    """Each time the first free one of the things behind the others; too short if the arrows lead round."""
+    lined = ()
+    for _ in things:
+        lined = lined + tuple(free_next(lined, things, arrows)[:1])
+    return lined
+
+
+def one_more_lined(counts, things, arrows):
+    """From how many ways there are to line up each set of so many things: likewise of one thing more."""
+    grown = {}
+    for lined in counts:
+        for thing in free_next(lined, things, arrows):
+            more = with_member(lined, thing)
+            grown[more] = grown.get(more, 0) + counts[lined]
+    return grown
+
+
+def with_member(some, thing):
+    """The set of some and this thing, which is not among them."""
+    return tuple(sorted([*some, thing]))

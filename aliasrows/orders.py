@@ -1,6 +1,7 @@
 """ORDERS of puts: which of them do the same, and how many do unlike things."""
 
-from aliasrows.basics import frozen, is_ascending, is_part, is_set_of_strings, ordered_pair, set_of
+from aliasrows.basics import frozen, is_ascending, is_part, is_set_of_strings, lined_up, one_more_lined
+from aliasrows.basics import ordered_pair, set_of, swap_way, swapped
 from aliasrows.beside import is_parting, parting
 from aliasrows.errors import NoNumber, Unfit
 from aliasrows.samenesses import homes
@@ -52,7 +53,7 @@ def is_pointing(table, thing):
     pointed = sorted([ordered_pair(ahead, behind) for ahead, behind in arrows])
     if pointed != [pair for pair in open_pairs(table) if is_part(pair, lasts)]:
         return False
-    return len(_lined_up(lasts, arrows)) == len(lasts)
+    return len(lined_up(lasts, arrows)) == len(lasts)
 
 
 def _is_set_of_arrows(thing, lasts):
@@ -61,20 +62,6 @@ def _is_set_of_arrows(thing, lasts):
         return False
     fit = all([isinstance(part, tuple) and len(part) == 2 and is_part(part, lasts) for part in thing])
     return fit and is_ascending(thing)
-
-
-def _free(lined, names, arrows):
-    """The names that can stand next behind those lined up: each that an arrow leads from to them stands there."""
-    held = [behind for ahead, behind in arrows if ahead not in lined]
-    return [name for name in names if name not in lined and name not in held]
-
-
-def _lined_up(names, arrows):
-    """The least ORDER of the names in which all arrows lead from ahead to behind; too short if there is a round."""
-    lined = ()
-    for _ in names:
-        lined = lined + tuple(_free(lined, names, arrows)[:1])
-    return lined
 
 
 def orders_same(table, one, other):
@@ -151,7 +138,7 @@ def _needs(table, some, pointing):
 def least_order(table, some, pointing):
     """The least ORDER of some that has this POINTING; None if there is none."""
     needs = _needs(table, some, pointing)
-    return None if needs is None else _lined_up(some, needs)
+    return None if needs is None else lined_up(some, needs)
 
 
 def how_many_orders(table, some, pointing):
@@ -161,18 +148,8 @@ def how_many_orders(table, some, pointing):
         return 0
     counts = {(): 1}
     for _ in some:
-        counts = _one_name_more(counts, some, needs)
+        counts = one_more_lined(counts, some, needs)
     return sum(list(counts.values()))
-
-
-def _one_name_more(counts, some, needs):
-    """From how many ways there are to line up each set of so many names: likewise of one name more."""
-    grown = {}
-    for lined in counts:
-        for name in _free(lined, some, needs):
-            more = tuple(sorted([*lined, name]))
-            grown[more] = grown.get(more, 0) + counts[lined]
-    return grown
 
 
 def _check_turns(table, one, other):
@@ -195,23 +172,8 @@ def turn_way(table, one, other):
     _check_turns(table, one, other)
     if not orders_same(table, one, other):
         return None
-    # Each exchange puts two names that stand in unlike order right: what holds in both ORDERS is kept.
     rank = {name: place for place, name in enumerate(other)}
-    way = [frozen(one)]
-    while way[-1] != frozen(other):
-        way.append(_nearer(way[-1], rank))
-    return tuple(way)
-
-
-def _nearer(order, rank):
-    """The ORDER with the first two neighbours exchanged that stand in unlike order by rank."""
-    wrong = [place for place in range(len(order) - 1) if rank[order[place]] > rank[order[place + 1]]]
-    return _exchanged(order, wrong[0])
-
-
-def _exchanged(order, place):
-    """The ORDER with the name at this place and the next one exchanged."""
-    return (*order[:place], order[place + 1], order[place], *order[place + 2:])
+    return swap_way(frozen(one), tuple([rank[name] for name in one]))
 
 
 def is_turn_way(table, one, other, thing):
@@ -230,7 +192,7 @@ def is_turn_way(table, one, other, thing):
 
 def _is_turn(order, following):
     """Whether an exchange of neighbours leads from the one ORDER to the other one."""
-    return following in [_exchanged(order, place) for place in range(len(order) - 1)]
+    return following in [swapped(order, place) for place in range(len(order) - 1)]
 
 
 def free_places(table, order):
@@ -238,4 +200,4 @@ def free_places(table, order):
     wanted = pointing_of(table, order)
     home, loose = homes(lumps(table)), open_pairs(table)
     places = range(len(order) - 1)
-    return tuple([place for place in places if _pointing(home, loose, _exchanged(order, place)) == wanted])
+    return tuple([place for place in places if _pointing(home, loose, swapped(order, place)) == wanted])

@@ -105,6 +105,7 @@ def together(table, one, other):
     return sum(home_of(cells)[one] == home_of(cells)[other] for cells in found), len(found)
 
 
+@functools.lru_cache(maxsize=None)
 def word_of(table, one, other):
     joined, every = together(table, one, other)
     return "one" if joined == every else "apart" if joined == 0 else "open"
@@ -316,3 +317,81 @@ def foreign_cells():
     """SAMENESSES of TABLES of six names, and others: handed in for a TABLE, most of them are none of it."""
     found = list(partitions(tuple("abcdef")))[::29] + list(partitions(("a", "b", "c", "d")))
     return tuple(found + [(), (("a",),), (("q",),), (("a", "b"), ("b", "c")), (("b",), ("a",)), ((), ("a",))])
+
+
+# Points 11 and 12: DEEDS that pass, and ROWS that are alike, by all exchanges one behind another.
+
+def passes(table, deed, second):
+    """Whether both DEEDS pass."""
+    if deed[0] == second[0] and (deed[0] == "get" or deed[2] == second[2]):
+        return True
+    return word_of(table, deed[1], second[1]) == "apart"
+
+
+def turned(row, place):
+    """The ROW with the DEED at this place and the next one exchanged."""
+    return (*row[:place], row[place + 1], row[place], *row[place + 2:])
+
+
+@functools.lru_cache(maxsize=None)
+def alike(table, row):
+    """For each ROW that exchanges of DEEDS that pass lead to how few of them do."""
+    far, edge = {row: 0}, [row]
+    for found in edge:
+        for place in range(len(row) - 1):
+            following = turned(found, place)
+            if following not in far and passes(table, found[place], found[place + 1]):
+                far[following] = far[found] + 1
+                edge.append(following)
+    return far
+
+
+def loose_row(draw, table, many):
+    """A ROW of so many DEEDS of which many pass, and some are equal."""
+    row = []
+    for place in range(many):
+        name = draw.choice(table[0])
+        row.append(("get", name, "tuvwxyza"[place]) if draw.random() < 0.4 else ("put", name, draw.choice((1, 1, 2))))
+    return tuple(row)
+
+
+@functools.lru_cache(maxsize=None)
+def loose_rows():
+    """Pairs of a TABLE and a ROW of it, of none to six DEEDS, of which many pass."""
+    draw = random.Random(11)
+    found = []
+    for table in some_tables():
+        found += [(table, loose_row(draw, table, many)) for many in (0, 1, 2, 3, 4, 4, 5, 6)]
+    return tuple(found)
+
+
+# Point 13: FACTS.
+
+def all_facts(table):
+    """All FACTS of the TABLE, ascending, those that cannot be among them."""
+    return [(word, *pair) for word in ("apart", "one") for pair in itertools.combinations(table[0], 2)]
+
+
+def with_facts(table, facts):
+    """The TABLE with the pairs of the facts; maybe none."""
+    names, ones, aparts = table
+    ones = {*ones, *(fact[1:] for fact in facts if fact[0] == "one")}
+    aparts = {*aparts, *(fact[1:] for fact in facts if fact[0] == "apart")}
+    return names, tuple(sorted(ones)), tuple(sorted(aparts))
+
+
+def can_be(table, facts):
+    """Whether some SAMENESS of the TABLE fits all facts."""
+    return samenesses(with_facts(table, facts)) != []
+
+
+# Point 14: what ROWS tell.
+
+def told_by(row, cells):
+    """What the ROW tells by the SAMENESS."""
+    return outcome_of(row, cells)[0]
+
+
+def subsets_by_size(things):
+    """All sets of things, those with fewer first, each time ascending."""
+    return (some for many in range(len(things) + 1) for some in itertools.combinations(things, many))

@@ -1,6 +1,6 @@
 """The examples of DOC.md, with the results and the errors that stand there."""
 
-from aliasrows import beside, errors, needless, orders, rows, samenesses, sure, tables
+from aliasrows import beside, errors, more, moved, needless, orders, plainrow, probes, rows, samenesses, sure, tables
 from tests.helper import Case
 
 EXAMPLES = r'''
@@ -118,6 +118,80 @@ raises Unfit()
 ((0, 1), [(), (0,), (0, 1), (1,), (1, 2)], [(0, 1), (1, 2)], [(('put', 'p', 3), ('put', 'p', 4)), (('put', 'p', 4),), (('put', 'p', 4), ('put', 'p', 3), ('put', 'p', 4)), (('put', 'p', 4), ('put', 'p', 4))], (0, 1), (1, 2))
 >>> is_needless(loose, row, 5)
 raises NoNumber(number=5)
+>>> table, x, y = (("a", "b", "c", "d"), (("a", "b"),), (("b", "c"),)), ("get", "c", "x"), ("get", "b", "y")
+>>> row = (("put", "a", 1), x, ("put", "d", 2), y)
+>>> can_pass(table, x, y), can_pass(table, row[0], x), can_pass(table, row[2], x), can_pass(table, row[2], ("put", "a", 2)), can_pass(table, row[0], y), passing_places(table, row), exchanged(table, row, 0)
+(True, True, False, True, False, (0,), (('get', 'c', 'x'), ('put', 'a', 1), ('put', 'd', 2), ('get', 'b', 'y')))
+>>> held_pairs(table, row), longest_held(table, row), deed_places(table, row, x), deed_places(table, row, y), first_steps(table, row), last_steps(table, row), fewest_steps(table, row)
+(((0, 2), (0, 3), (1, 2), (1, 3), (2, 3)), (0, 2, 3), (0, 1), (3,), ((0, 1), (2,), (3,)), ((0, 1), (2,), (3,)), 3)
+>>> are_alike(table, row, exchanged(table, row, 0)), are_alike(table, row, row[::-1]), exchanges_between(table, row, exchanged(table, row, 0)), way_between(table, row, exchanged(table, row, 0)) == (row, exchanged(table, row, 0)), exchanges_between(table, row, row[:3]), is_steps(table, row, ((1,), (0,), (2,), (3,))), is_steps(table, row, ((0, 2), (1,), (3,)))
+(True, False, 1, True, None, True, False)
+>>> over = (("put", "a", 1), ("put", "d", 2), ("put", "a", 3), ("put", "d", 3))
+>>> keeps(table, row, 0), keeps(table, row, 2), keeps(table, over, 0), can_pass(table, over[0], over[1]), keeps(table, over, 2), passing_places(table, over), last_steps(table, over), deed_places(table, over, ("put", "d", 3))
+(True, False, True, False, True, (2,), ((0,), (1,), (2, 3)), (2, 3))
+>>> exchanged(table, row, 1)
+raises CanNot()
+>>> keeps(table, row, 4)
+raises NoNumber(number=4)
+>>> deed_places(table, row, ("get", "a", "z"))
+raises Unfit()
+>>> table = (("a", "b", "c", "d"), (("a", "b"),), (("b", "c"),))
+>>> row = (("put", "a", 1), ("get", "c", "x"), ("put", "d", 2), ("get", "b", "y"))
+>>> plain_row(table, row), is_plain(table, row), how_many_alike(table, row), nth_alike(table, row, 1) == row, number_alike(table, row, row), number_alike(table, row, row[:3]), how_many_at(table, row, row[1], 0), how_many_at(table, row, row[3], 0)
+((('get', 'c', 'x'), ('put', 'a', 1), ('put', 'd', 2), ('get', 'b', 'y')), False, 2, True, 1, None, 1, 0)
+>>> apart = (("p", "q"), (), (("p", "q"),))
+>>> wide = (("put", "p", 1), ("put", "p", 2), ("put", "q", 1), ("put", "q", 2))
+>>> how_many_alike(apart, wide), nth_alike(apart, wide, 5)[0], how_many_at(apart, wide, wide[2], 1), len(alike_rows(apart, wide[:3])), how_many_forms(apart, wide), how_many_forms(table, (("put", "a", 1), ("put", "c", 2), ("put", "d", 3)))
+(6, ('put', 'q', 1), 2, 3, 4, 4)
+>>> forms(apart, wide[:3]), is_form(apart, wide[:2], wide[:2]), is_form(apart, wide[1:3], wide[1:3][::-1])
+([(('put', 'p', 1), ('put', 'p', 2), ('put', 'q', 1)), (('put', 'p', 2), ('put', 'p', 1), ('put', 'q', 1))], True, False)
+>>> plain_joined(apart, wide[2:], wide[:2]) == wide, begins_with(table, row, row[1:2]), begins_with(table, row, row[2:3]), rest_behind(table, row, row[1:2]), rest_behind(table, row, row[2:3])
+(True, True, False, (('put', 'a', 1), ('put', 'd', 2), ('get', 'b', 'y')), None)
+>>> len(plain_begun(apart, wide)), plain_begun(table, row[:2]), common_beginning(apart, wide, wide[1:]), common_beginning(apart, wide, wide[2:])
+(9, [(), (('get', 'c', 'x'),), (('get', 'c', 'x'), ('put', 'a', 1)), (('put', 'a', 1),)], (('put', 'q', 1), ('put', 'q', 2)), (('put', 'q', 1), ('put', 'q', 2)))
+>>> nth_alike(table, row, 2)
+raises NoNumber(number=2)
+>>> plain_joined(table, row, row[1:2])
+raises Unfit()
+>>> table = (("a", "b", "c", "d"), (("a", "b"),), (("b", "c"),))
+>>> row = (("put", "a", 1), ("get", "c", "x"), ("put", "d", 2), ("get", "b", "y"))
+>>> is_fact(table, ("one", "a", "c")), are_facts(table, (("one", "a", "c"),)), are_facts(table, (("apart", "a", "d"), ("one", "c", "d"))), are_facts(table, (("one", "a", "d"), ("one", "c", "d"))), are_facts(table, ()), told_more(table, (("apart", "a", "d"),))[2], needless_facts(table, (("apart", "a", "d"), ("one", "c", "d")))
+(True, False, True, False, True, (('a', 'd'), ('b', 'c')), (('apart', 'a', 'd'),))
+>>> can_tell(table, row, "y", 2), can_tell(table, row, "y", None), is_sure_of(table, row, "x", None), is_sure_of(table, row, "y", 1), sure_with(table, row, "y", (("one", "c", "d"),)), sure_with(table, row, "y", (("apart", "c", "d"),))
+(True, False, True, False, True, False)
+>>> sure_pairs(table, row, "y", "one"), sure_pairs(table, row, "y", "apart"), made_sure(table, row, ("one", "c", "d")), made_sure(table, row, ("apart", "c", "d")), fewest_aparts(table, row, "y"), least_aparts(table, row, "y"), least_aparts(table, row, "x")
+((('a', 'd'), ('b', 'd'), ('c', 'd')), (('a', 'd'), ('b', 'd')), ('y',), (), 1, (('apart', 'a', 'd'),), ())
+>>> fewest_facts(table, row, "y", 2), least_facts(table, row, "y", 2), least_facts(table, row, "y", 1), fewest_facts(table, row, "y", 3), least_facts(table, row, "x", None), are_facts_for(table, row, "y", 1, (("apart", "b", "d"), ("apart", "c", "d")))
+(1, (('one', 'a', 'd'),), (('apart', 'a', 'd'),), None, (), True)
+>>> free = (("p", "q", "r", "z"), (), ())
+>>> race = (("put", "p", 1), ("put", "q", 2), ("put", "r", 3), ("get", "z", "w"))
+>>> least_facts(free, race, "w", 1), least_facts(free, race, "w", None), fewest_facts(free, race, "w", 3), least_aparts(free, race, "w"), sure_pairs(free, race, "w", "one")
+((('apart', 'p', 'q'), ('apart', 'p', 'r'), ('one', 'p', 'z')), (('apart', 'p', 'z'), ('apart', 'q', 'z'), ('apart', 'r', 'z')), 1, (('apart', 'p', 'z'), ('apart', 'q', 'z'), ('apart', 'r', 'z')), (('r', 'z'),))
+>>> fewest_to_same(table, row, row[::2] + row[1::2]), least_to_same(table, row[:1], row[2:3]), fewest_to_same(free, race[:2], race[:2][::-1]), least_to_same(free, race[:2], race[:2][::-1])
+(1, None, 1, (('apart', 'p', 'q'),))
+>>> can_tell(table, row, "z", 1)
+raises NoSpot(spot='z')
+>>> told_more(table, (("one", "a", "c"),))
+raises Unfit()
+>>> three, star = (("a", "b", "c"), (), ()), (("h", "x", "y", "z"), (), (("x", "y"), ("x", "z"), ("y", "z")))
+>>> puts = (("put", "a", 1), ("put", "b", 2), ("put", "c", 3))
+>>> row = (*puts, ("get", "a", "s"))
+>>> tells_all(three, row), tells_all(three, (*row, ("get", "b", "t"))), how_many_told(three, row), told_parts(three, row), told_parts(three, puts)
+(False, True, 3, (((('s', 1),), 2), ((('s', 2),), 1), ((('s', 3),), 2)), (((), 5),))
+>>> is_alike_told(three, row, alike_told(three, row)), is_alike_told(three, row, ((("a",), ("b",), ("c",)), (("a",), ("b", "c")))), alike_told(three, (*row, ("get", "b", "t")))
+(True, True, None)
+>>> is_cover(three, ("a", "c")), is_cover(three, ("b",)), is_cover(star, ("h",)), fewest_gets(three), fewest_gets(star), least_cover(three), least_cover(star), how_many_covers(three)
+(True, False, True, 2, 1, ('a', 'b'), ('h',), 3)
+>>> sure = (("a", "b", "c"), (("a", "b"),), (("b", "c"),))
+>>> fewest_gets(sure), least_cover(sure), tells_all(sure, ()), is_probe(sure, ()), is_probe(three, (*row, ("get", "b", "t"))), is_probe(three, (*row, ("get", "b", "t"), ("get", "c", "u"))), is_probe(three, probe_row(three)), tells_all(star, probe_row(star))
+(0, (), True, True, True, False, True, True)
+>>> hidden = (("h", "y"), ("x",), ("z",))
+>>> sameness_by(three, row, (("s", 2),)), told_back(sure, lambda asked: ()), told_back(star, lambda asked: outcome(star, asked, hidden)[0])
+((('a', 'b'), ('c',)), (('a', 'b'), ('c',)), (('h', 'y'), ('x',), ('z',)))
+>>> sameness_by(three, row, (("s", 1),))
+raises Unfit()
+>>> sameness_by(three, row, ())
+raises CanNot()
 '''
 
 
@@ -132,7 +206,8 @@ def steps(text):
 class Examples(Case):
     def test_examples(self):
         known = {}
-        for module in (errors, tables, samenesses, rows, sure, beside, orders, needless):
+        for module in (errors, tables, samenesses, rows, sure, beside, orders, needless, moved, plainrow, more,
+                       probes):
             known.update(vars(module))
         looked = 0
         for done, below in steps(EXAMPLES):

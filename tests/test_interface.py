@@ -26,6 +26,14 @@ FUNCTIONS = {
         how_many_orders, fewest_turns, turn_way, is_turn_way, free_places""",
     "needless": """can_go, is_needless, needless_places, needed_by, is_needed_by, all_that_go, full_sets,
         always_stay, most_gone, least_rest, dearest_gone, all_rests, gone_by_turns, twin_spots, spare_gets""",
+    "moved": """can_pass, exchanged, passing_places, keeps, are_alike, exchanges_between, way_between, is_way_between,
+        held_pairs, longest_held, deed_places, is_steps, fewest_steps, first_steps, last_steps""",
+    "plainrow": """plain_row, is_plain, how_many_alike, nth_alike, number_alike, alike_rows, how_many_at,
+        how_many_forms, forms, is_form, plain_joined, begins_with, rest_behind, plain_begun, common_beginning""",
+    "more": """is_fact, are_facts, told_more, needless_facts, can_tell, is_sure_of, sure_with, sure_pairs, made_sure,
+        fewest_aparts, least_aparts, fewest_facts, least_facts, are_facts_for, fewest_to_same, least_to_same""",
+    "probes": """tells_all, how_many_told, told_parts, alike_told, is_alike_told, is_cover, fewest_gets, least_cover,
+        how_many_covers, probe_row, is_probe, sameness_by, told_back""",
 }
 ERRORS = {
     "NoName": (LookupError, "name"), "NoSpot": (LookupError, "spot"), "NoNumber": (LookupError, "number"),

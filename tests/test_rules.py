@@ -4,9 +4,9 @@ import copy
 import inspect
 import itertools
 
-from aliasrows import beside, needless, orders, rows, samenesses, sure, tables
+from aliasrows import beside, more, moved, needless, orders, plainrow, probes, rows, samenesses, sure, tables
 from aliasrows.errors import CanNot, Known, NoName, NoNumber, NoSpot, Unfit
-from tests.helper import Case, as_lists, in_turns, some_rows
+from tests.helper import Case, as_lists, in_turns, some_rows, told_by
 from tests.test_interface import FUNCTIONS
 
 TABLE = (("a", "b", "c", "d"), (("a", "b"),), (("b", "c"),))
@@ -27,8 +27,16 @@ OF_SOME = {"table": TABLE, "some": ("a", "b", "c", "d")}
 TWO_ORDERS = {"table": TABLE, "one": ORDER, "other": TURNED}
 ECHO = {"table": TABLE,
         "row": (("put", "d", 5), ("put", "a", 5), ("put", "b", 5), ("get", "a", "s"), ("get", "b", "t"))}
+MOVING = (("put", "a", 1), ("get", "c", "x"), ("put", "d", 2), ("get", "b", "y"), ("put", "c", 2))
+MOVED = (MOVING[1], *MOVING[:1], MOVING[2], MOVING[4], MOVING[3])
+OF_MOVING = {"table": TABLE, "row": MOVING}
+TWO_ROWS = {"table": TABLE, "one": MOVING, "other": MOVED}
+DEEDS = (("get", "a", "s"), ("put", "a", 1), ("put", "c", 2), ("put", "d", 1))
+FACTS = (("apart", "a", "d"), ("one", "c", "d"))
+AT_Y = {**OF_MOVING, "spot": "y"}
+PROBE = (("put", "d", 0), ("put", "a", 1), ("put", "c", 2), ("get", "d", "d"))
 
-# For each function what it is handed, by the names of point 4 to 10, in their order.
+# For each function what it is handed, by the names of points 4 to 14, in their order.
 CALLS = (
     (tables.is_table, {"thing": TABLE}),
     (tables.names_of, {"table": TABLE}),
@@ -150,6 +158,65 @@ CALLS = (
     (needless.gone_by_turns, {**ECHO, "turns": (4, 2, 1, 0)}),
     (needless.twin_spots, ECHO),
     (needless.spare_gets, ECHO),
+    (moved.can_pass, {"table": TABLE, "deed": MOVING[0], "second": MOVING[1]}),
+    (moved.exchanged, {**OF_MOVING, "place": 0}),
+    (moved.passing_places, OF_MOVING),
+    (moved.keeps, {**OF_MOVING, "place": 2}),
+    (moved.are_alike, TWO_ROWS),
+    (moved.exchanges_between, TWO_ROWS),
+    (moved.way_between, TWO_ROWS),
+    (moved.is_way_between, {**TWO_ROWS, "thing": (MOVING, (MOVING[1], MOVING[0], *MOVING[2:]), MOVED)}),
+    (moved.held_pairs, OF_MOVING),
+    (moved.longest_held, OF_MOVING),
+    (moved.deed_places, {**OF_MOVING, "deed": MOVING[4]}),
+    (moved.is_steps, {**OF_MOVING, "thing": ((0, 1), (2, 4), (3,))}),
+    (moved.fewest_steps, OF_MOVING),
+    (moved.first_steps, OF_MOVING),
+    (moved.last_steps, OF_MOVING),
+    (plainrow.plain_row, OF_MOVING),
+    (plainrow.is_plain, {"table": TABLE, "row": MOVED}),
+    (plainrow.how_many_alike, OF_MOVING),
+    (plainrow.nth_alike, {**OF_MOVING, "number": 2}),
+    (plainrow.number_alike, {**OF_MOVING, "other": MOVED}),
+    (plainrow.alike_rows, OF_MOVING),
+    (plainrow.how_many_at, {**OF_MOVING, "deed": MOVING[1], "place": 0}),
+    (plainrow.how_many_forms, {"table": TABLE, "deeds": DEEDS}),
+    (plainrow.forms, {"table": TABLE, "deeds": DEEDS}),
+    (plainrow.is_form, {"table": TABLE, "deeds": DEEDS, "thing": DEEDS}),
+    (plainrow.plain_joined, {"table": TABLE, "one": MOVING[2:], "other": MOVING[:2]}),
+    (plainrow.begins_with, {**OF_MOVING, "one": MOVED[:2]}),
+    (plainrow.rest_behind, {**OF_MOVING, "one": MOVED[:2]}),
+    (plainrow.plain_begun, OF_MOVING),
+    (plainrow.common_beginning, {"table": TABLE, "one": MOVING, "other": MOVED[:3]}),
+    (more.is_fact, {"table": TABLE, "thing": FACTS[0]}),
+    (more.are_facts, {"table": TABLE, "thing": FACTS}),
+    (more.told_more, {"table": TABLE, "facts": FACTS}),
+    (more.needless_facts, {"table": TABLE, "facts": FACTS}),
+    (more.can_tell, {**AT_Y, "value": 2}),
+    (more.is_sure_of, {**OF_MOVING, "spot": "x", "value": None}),
+    (more.sure_with, {**AT_Y, "facts": FACTS}),
+    (more.sure_pairs, {**AT_Y, "word": "one"}),
+    (more.made_sure, {**OF_MOVING, "fact": FACTS[1]}),
+    (more.fewest_aparts, AT_Y),
+    (more.least_aparts, AT_Y),
+    (more.fewest_facts, {**AT_Y, "value": 2}),
+    (more.least_facts, {**AT_Y, "value": 1}),
+    (more.are_facts_for, {**AT_Y, "value": 1, "thing": FACTS}),
+    (more.fewest_to_same, {**TWO_ROWS, "other": MOVING[::-1]}),
+    (more.least_to_same, {**TWO_ROWS, "other": MOVING[2:3] + MOVING[:2] + MOVING[3:]}),
+    (probes.tells_all, OF_MOVING),
+    (probes.how_many_told, OF_MOVING),
+    (probes.told_parts, OF_MOVING),
+    (probes.alike_told, OF_MOVING),
+    (probes.is_alike_told, {**OF_MOVING, "thing": (NEAR, APART)}),
+    (probes.is_cover, {"table": TABLE, "thing": ("d",)}),
+    (probes.fewest_gets, {"table": TABLE}),
+    (probes.least_cover, {"table": TABLE}),
+    (probes.how_many_covers, {"table": TABLE}),
+    (probes.probe_row, {"table": TABLE}),
+    (probes.is_probe, {"table": TABLE, "thing": PROBE}),
+    (probes.sameness_by, {"table": TABLE, "row": PROBE, "told": (("d", 2),)}),
+    (probes.told_back, {"table": TABLE, "asker": lambda row: told_by(row, FAR)}),
 )
 
 # Calls that raise, with what they raise.
@@ -183,6 +250,23 @@ REFUSED = (
     (needless.can_go, (TABLE, ROW, (0, 5, 6)), NoNumber, {"number": 5}),
     (needless.is_needed_by, (TABLE, ROW, -1, NEAR), NoNumber, {"number": -1}),
     (needless.gone_by_turns, (TABLE, ROW, (0, 9, 5)), NoNumber, {"number": 9}),
+    (moved.exchanged, (TABLE, MOVING, 5), NoNumber, {"number": 5}),
+    (moved.exchanged, (TABLE, MOVING, 4), CanNot, {}),
+    (moved.exchanged, (TABLE, MOVING, 1), CanNot, {}),
+    (moved.keeps, (TABLE, MOVING, -1), NoNumber, {"number": -1}),
+    (moved.keeps, (TABLE, MOVING, 4), CanNot, {}),
+    (moved.deed_places, (TABLE, MOVING, ("get", "c", "y")), Unfit, {}),
+    (plainrow.nth_alike, (TABLE, MOVING, 7), NoNumber, {"number": 7}),
+    (plainrow.plain_joined, (TABLE, MOVING, MOVING[:2]), Unfit, {}),
+    (more.told_more, (TABLE, (("one", "a", "c"),)), Unfit, {}),
+    (more.can_tell, (TABLE, MOVING, "z", 1), NoSpot, {"spot": "z"}),
+    (more.sure_with, (TABLE, MOVING, "z", (("one", "a", "c"),)), NoSpot, {"spot": "z"}),
+    (more.sure_with, (TABLE, MOVING, "y", (("one", "a", "c"),)), Unfit, {}),
+    (more.made_sure, (TABLE, MOVING, ("apart", "a", "b")), Unfit, {}),
+    (more.least_facts, (TABLE, MOVING, "a", None), NoSpot, {"spot": "a"}),
+    (more.are_facts_for, (TABLE, MOVING, "a", None, ()), NoSpot, {"spot": "a"}),
+    (probes.sameness_by, (TABLE, PROBE, (("d", 7),)), CanNot, {}),
+    (probes.sameness_by, (TABLE, PROBE[:3], ()), Unfit, {}),
 )
 
 
