@@ -395,3 +395,99 @@ def told_by(row, cells):
 def subsets_by_size(things):
     """All sets of things, those with fewer first, each time ascending."""
     return (some for many in range(len(things) + 1) for some in itertools.combinations(things, many))
+
+
+# Points 16 and 18: a TABLE and a ROW with deeds, kept plainly.
+
+class PlainBoard:
+    """What a Board ought to keep. What raises there returns here the name of the error and its value."""
+
+    def __init__(self, names):
+        self.table, self.row, self.past = (tuple(names), (), ()), (), []
+
+    def done(self, word, *rest):
+        """Do the deed of this word; return (error, value), or for undo whether there was one, or None."""
+        if word == "undo":
+            there = self.past != []
+            self.table, self.row = self.past.pop() if there else (self.table, self.row)
+            return there
+        state = (self.table, self.row)
+        wrong = getattr(self, word)(*rest)
+        if wrong is None:
+            self.past.append(state)
+        return wrong
+
+    def unknown(self, *names):
+        return next((("NoName", name) for name in names if name not in self.table[0]), None)
+
+    def put(self, name, number):
+        if wrong := self.unknown(name):
+            return wrong
+        self.row += (("put", name, number),)
+
+    def get(self, name, spot):
+        if wrong := self.unknown(name):
+            return wrong
+        if spot in spots(self.row):
+            return "Known", spot
+        self.row += (("get", name, spot),)
+
+    def strike(self, place):
+        if place not in range(len(self.row)):
+            return "NoNumber", place
+        self.row = self.row[:place] + self.row[place + 1:]
+
+    def one(self, name, other):
+        return self.tell(1, name, other)
+
+    def apart(self, name, other):
+        return self.tell(2, name, other)
+
+    def tell(self, part, name, other):
+        """Tell the pair in ones or in aparts, if a SAMENESS is left, and both are no one name."""
+        if wrong := self.unknown(name, other):
+            return wrong
+        told = [set(pairs) for pairs in self.table[1:]]
+        told[part - 1].add(tuple(sorted((name, other))))
+        table = (self.table[0], *(tuple(sorted(pairs)) for pairs in told))
+        if name == other or samenesses(table) == []:
+            return "Unfit", None
+        self.table = table
+
+    def untell(self, name, other):
+        if wrong := self.unknown(name, other):
+            return wrong
+        self.table = (self.table[0], *(tuple(pair for pair in pairs if set(pair) != {name, other})
+                                       for pairs in self.table[1:]))
+
+    def at(self, spot):
+        if spot not in spots(self.row):
+            return "NoSpot", spot
+        return values_in_order([number_of(self.row, place) for place in seen_at(self.table, self.row, spot)])
+
+    def left(self, name):
+        if wrong := self.unknown(name):
+            return wrong
+        return values_in_order([number_of(self.row, place) for place in seen_left(self.table, self.row, name)])
+
+    def sure(self):
+        halves = []
+        for look, keys in ((self.at, spots(self.row)), (self.left, self.table[0])):
+            halves.append(tuple((key, look(key)[0]) for key in keys if len(look(key)) == 1 and look(key) != (None,)))
+        return tuple(halves)
+
+
+def drawn_deed(draw, board):
+    """A deed for the PlainBoard, most of them not refused, such that its ROW has at most eight DEEDS."""
+    names = (*board.table[0], *board.table[0], *board.table[0], "x")
+    words = ["one", "apart", "apart", "untell", "undo", "undo", "strike"] + ["put", "put", "put", "get", "get"] * 2
+    if len(board.row) >= 8:
+        words = [word for word in words if word not in ("put", "get")]
+    word = draw.choice(words)
+    if word == "undo":
+        return (word,)
+    if word == "strike":
+        return word, draw.choice((*range(len(board.row)), *range(len(board.row)), len(board.row), -1, BOUND))
+    if word == "put":
+        return word, draw.choice(names), draw.choice((0, 1, 2, -1, BOUND, -BOUND))
+    return word, draw.choice(names), draw.choice(("s", "t", "u", "a", "v", "w") if word == "get" else names)

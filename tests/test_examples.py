@@ -1,6 +1,10 @@
-"""The examples of DOC.md, with the results and the errors that stand there."""
+"""The examples of DOC.md, with the results and the errors that stand there, and those of README.md."""
 
-from aliasrows import beside, errors, more, moved, needless, orders, plainrow, probes, rows, samenesses, sure, tables
+import doctest
+import pathlib
+
+from aliasrows import beside, board, desk, errors, more, moved, needless, orders, plainrow, probes, readings, rows
+from aliasrows import samenesses, sure, tables, texts
 from tests.helper import Case
 
 EXAMPLES = r'''
@@ -192,6 +196,59 @@ raises Unfit()
 raises Unfit()
 >>> sameness_by(three, row, ())
 raises CanNot()
+>>> three = (("a", "b", "c"), (), ())
+>>> row = (("put", "a", 1), ("put", "b", 2), ("put", "c", 3), ("get", "a", "s"))
+>>> lone, last, two = (row, (("s", 1),)), (row, (("s", 3),)), (("put", "a", 1), ("put", "b", 7), ("put", "c", 7), ("get", "a", "s"))
+>>> all_that_fit(three, (lone,)), how_many_fit(three, (last,)), how_many_fit(three, ((two, (("s", 7),)),)), how_many_fit(three, ()), how_many_fit(three, ((row, ()),)), fits(three, (lone,), (("a",), ("b", "c")))
+([(('a',), ('b',), ('c',)), (('a',), ('b', 'c'))], 2, 3, 5, 0, True)
+>>> ones_by(three, (last,)), aparts_by(three, (lone,)), open_by(three, (lone,)), open_by(three, (last,)), table_by(three, (lone,)), is_whole(three, (lone,)), is_whole(three, ((two, (("s", 7),)),))
+((('a', 'c'),), (('a', 'b'), ('a', 'c')), (('b', 'c'),), (('a', 'b'), ('b', 'c')), (('a', 'b', 'c'), (), (('a', 'b'), ('a', 'c'))), True, False)
+>>> other = (*row[:3], ("get", "b", "u"))
+>>> will_tell(three, (lone,), other), parts_by(three, (), row), is_useless(three, (lone,), row), is_useless(three, (lone,), other)
+([(('u', 2),), (('u', 3),)], (((('s', 1),), 2), ((('s', 2),), 1), ((('s', 3),), 2)), True, False)
+>>> [worst_left(three, (), name) for name in "abc"], next_get(three, ()), next_get(three, (lone,)), next_get(three, ((row, (("s", 2),)),)), first_lie(three, (lone, last)), first_lie(three, (lone, lone)), spare_readings(three, (lone, lone)), spare_readings(three, (lone,))
+([2, 3, 5], 'a', 'b', None, 1, None, (0, 1), ())
+>>> is_readings(three, (lone, last)), is_readings(three, (row,)), is_readings(three, ((row, (("x", 1),)),)), reading_of(three, row, (("a", "b", "c"),)) == last
+(True, False, False, True)
+>>> ones_by(three, (lone, last))
+raises Unfit()
+>>> worst_left(three, (lone, last), "x")
+raises NoName(name='x')
+>>> board = Board(("a", "b", "c"))
+>>> board.put("a", 1), board.put("b", 2), board.get("a", "s"), board.at("s"), board.left("c"), board.sure(), len(board)
+(None, None, None, (1, 2), (None, 1, 2), ((), (('b', 2),)), 3)
+>>> board.apart("b", "a"), board.at("s"), board.sure(), board.table(), board.same((("put", "b", 2), ("put", "a", 1), ("get", "a", "s"))), board.same((("put", "b", 2), ("put", "a", 1)))
+(None, (1,), ((('s', 1),), (('a', 1), ('b', 2))), (('a', 'b', 'c'), (), (('a', 'b'),)), True, False)
+>>> board.strike(0), board.row(), board.at("s"), board.undo(), board.undo(), board.table(), board.twin() == board, board.undo(), len(board)
+(None, (('put', 'b', 2), ('get', 'a', 's')), (None,), True, True, (('a', 'b', 'c'), (), ()), True, True, 2)
+>>> board.one("a", "c"), board.left("c"), board.untell("c", "a"), board.undo(), board.table(), Board(("p",)).undo(), Board(("p",)) == 7
+(None, (1, 2), None, True, (('a', 'b', 'c'), (('a', 'c'),), ()), False, False)
+>>> board.get("a", "s"), board.strike(5)
+raises NoNumber(number=5)
+>>> board.get("b", "s")
+raises Known(name='s')
+>>> board.apart("c", "a")
+raises Unfit()
+>>> table_text((("a", "b", "c"), (("a", "b"),), ())), table_text((("q",), (), ())), table_in("a b c; a=c; a/b b/c"), row_text((("put", "a", -1), ("get", "b", "s"))), row_text(())
+('a b c; a=b; -', 'q; -; -', (('a', 'b', 'c'), (('a', 'c'),), (('a', 'b'), ('b', 'c'))), 'a:=-1 b>s', '-')
+>>> row_in("zz:=10 zz>zz"), row_in("-"), cells_text((("a", "c"), ("b",))), cells_in("a c; b"), cells_in("-")
+((('put', 'zz', 10), ('get', 'zz', 'zz')), (), 'a c; b', (('a', 'c'), ('b',)), ())
+>>> table_in("a b; a=b; a/b")
+raises BadText()
+>>> row_in("a>s b>s")
+raises BadText()
+>>> cells_in("b; a")
+raises BadText()
+>>> replies(("a", "b", "c"), "put a 1\nput b -2\nget a s\nat s\nleft c\nsure\nways\ngets\nrow\ntable")
+['done', 'done', 'done', '-2 1', 'none -2 1', '-; b=-2', '5', '2', 'a:=1 b:=-2 a>s', 'a b c; -; -']
+>>> replies(("a", "b", "c"), "put a 1\nput b 2\nget a s\napart b a\nat s\nsure\ntold a b\ntold c a\nways\ngets\none b c\ntold c a\nways\nleft c\nundo\nundo\nat s\nstrike 0\nat s\nrow\nmany")
+['done', 'done', 'done', 'done', '1', 's=1; a=1 b=2', 'apart', 'open', '3', '1', 'done', 'apart', '1', '2', 'yes', 'yes', '1 2', 'done', 'none 2', 'b:=2 a>s', '2']
+>>> replies(("p", "q"), "undo\nget p s\nget q s\nat t\nput x 1\nstrike 4\none p p\napart p q\none q p\nuntell q p\ntable\nat s\nsure\nleft z")
+['no', 'done', 'refused Known', 'refused NoSpot', 'refused NoName', 'refused NoNumber', 'refused Unfit', 'done', 'refused Unfit', 'done', 'p q; -; -', 'none', '-; -', 'refused NoName']
+>>> is_request("put abcdefgh 0"), is_request("put a 01"), is_request("get a"), is_request("get a B"), is_request("undo 1"), is_request("put a"), is_request("told a a"), is_request(("undo",)), replies(("a",), "")
+(True, False, False, False, False, False, True, False, [])
+>>> replies(("a",), "row\nlook")
+raises BadLine(number=1)
 '''
 
 
@@ -207,7 +264,7 @@ class Examples(Case):
     def test_examples(self):
         known = {}
         for module in (errors, tables, samenesses, rows, sure, beside, orders, needless, moved, plainrow, more,
-                       probes):
+                       probes, readings, board, texts, desk):
             known.update(vars(module))
         looked = 0
         for done, below in steps(EXAMPLES):
@@ -221,3 +278,9 @@ class Examples(Case):
                     self.assertEqual(repr(eval(done, known)), below)
                 looked += 1
         self.assertEqual(looked, EXAMPLES.count(">>>"))
+
+    def test_readme(self):
+        readme = pathlib.Path(__file__).parent.parent / "README.md"
+        failed, looked = doctest.testfile(str(readme), module_relative=False, encoding="utf-8")
+        self.assertEqual(failed, 0)
+        self.assertGreater(looked, 30)

@@ -34,6 +34,10 @@ FUNCTIONS = {
         fewest_aparts, least_aparts, fewest_facts, least_facts, are_facts_for, fewest_to_same, least_to_same""",
     "probes": """tells_all, how_many_told, told_parts, alike_told, is_alike_told, is_cover, fewest_gets, least_cover,
         how_many_covers, probe_row, is_probe, sameness_by, told_back""",
+    "readings": """is_readings, reading_of, fits, all_that_fit, how_many_fit, first_lie, ones_by, aparts_by, open_by,
+        table_by, is_whole, will_tell, parts_by, is_useless, worst_left, next_get, spare_readings""",
+    "texts": "table_text, table_in, row_text, row_in, cells_text, cells_in",
+    "desk": "is_request, replies",
 }
 ERRORS = {
     "NoName": (LookupError, "name"), "NoSpot": (LookupError, "spot"), "NoNumber": (LookupError, "number"),
@@ -58,6 +62,10 @@ class Interface(Case):
                 with self.subTest(file=file, name=name):
                     self.assertIn(name, there)
                     self.assertEqual(getattr(module, name).__name__, name)
+
+    def test_the_class_is_defined_in_its_file(self):
+        self.assertIn("Board", defined("board", ast.ClassDef))
+        self.assertEqual(importlib.import_module("aliasrows.board").Board.__bases__, (object,))
 
     def test_errors_are_defined_in_their_file(self):
         there = defined("errors", ast.ClassDef)

@@ -1,8 +1,8 @@
-"""Point 2, for points 11 to 14: functions that ask whether a thing is something, handed whatever thing."""
+"""Point 2, for points 11 to 15 and 18: functions that ask whether a thing is something, handed whatever thing."""
 
 import itertools
 
-from aliasrows import more, moved, plainrow, probes
+from aliasrows import desk, more, moved, plainrow, probes, readings
 from aliasrows.errors import NoSpot
 from tests.helper import as_lists
 from tests.test_things import DEEP, HUGE, ODD, Any, long_names
@@ -28,6 +28,7 @@ ASKED = (
     (probes.is_alike_told, (TABLE, ROW[:2]), (NEAR, CELLS)),
     (probes.is_cover, (LOOSE,), ("p", "q", "s")),
     (probes.is_probe, (THREE,), PROBE),
+    (readings.is_readings, (TABLE,), ((ROW, (("x", 2), ("y", 1))), (ROW[:1], ()))),
 )
 
 
@@ -48,9 +49,9 @@ class Things(Any):
 
     def test_parts_exchanged(self):
         for call, ahead, thing in ASKED:
-            self.same(call(*ahead, thing[::-1]), call == probes.is_alike_told, call)
-            self.no(call, *ahead, thing + thing[-1:])
-            self.no(call, *ahead, thing * 10000)
+            self.same(call(*ahead, thing[::-1]), call in (probes.is_alike_told, readings.is_readings), call)
+            self.same(call(*ahead, thing + thing[-1:]), call == readings.is_readings, call)
+            self.same(call(*ahead, thing * 10000), call == readings.is_readings, call)
 
     def test_errors_whatever_the_thing_is(self):
         for thing in ODD + DEEP + (HUGE, (1,) * 100000, (), FACTS) + tuple(thing for _, _, thing in ASKED):
@@ -58,14 +59,31 @@ class Things(Any):
             self.refused(NoSpot, more.are_facts_for, as_lists(TABLE), as_lists(ROW), "z", None, thing, spot="z")
 
 
+class Requests(Any):
+    def test_odd_things(self):
+        self.yes(desk.is_request, "sure")
+        self.check_odd(desk.is_request)
+        for _, _, thing in ASKED:
+            self.no(desk.is_request, thing)
+            self.no(desk.is_request, as_lists(thing))
+
+    def test_requests_as_other_things(self):
+        for line in ("undo", "put a 1", "at s", "", "a"):
+            for call, ahead, _ in ASKED:
+                self.no(call, *ahead, line)
+                self.no(call, *ahead, (line,))
+                self.no(call, *ahead, tuple(line.split()) or ("",))
+
+
 class Facts(Any):
     def test_words(self):
         for thing in (("one", "a", "d"), ("apart", "c", "d"), ("one", "a", "c"), ("apart", "a", "b")):
             self.yes(more.is_fact, TABLE, thing)
-        for thing in (("One", "a", "d"), ("", "a", "d"), (None, "a", "d"), (True, "a", "d"), (("one",), "a", "d"), "one",
-                      ("one", "d", "a"), ("one", "a", "a"), ("one", "a", "x"), ("one", "x", "y"), ("one", "a"), ("one",),
-                      ("one", "a", "d", "d"), ("one", ("a", "d")), ("a", "d"), ("one", "a", 1), ("one", 0, 1), "aad",
-                      ["one", "a", "d"], ("one", ["a"], "d"), ("one", "ad", ""), (["one"], "a", "d"), ("apart", None, None)):
+        for thing in (("One", "a", "d"), ("", "a", "d"), (None, "a", "d"), (True, "a", "d"), (("one",), "a", "d"),
+                      "one", ("one", "d", "a"), ("one", "a", "a"), ("one", "a", "x"), ("one", "x", "y"), ("one", "a"),
+                      ("one",), ("one", "a", "d", "d"), ("one", ("a", "d")), ("a", "d"), ("one", "a", 1), ("one", 0, 1),
+                      "aad", ["one", "a", "d"], ("one", ["a"], "d"), ("one", "ad", ""), (["one"], "a", "d"),
+                      ("apart", None, None)):
             self.no(more.is_fact, TABLE, thing)
             self.no(more.are_facts, TABLE, (thing,))
             self.no(more.are_facts_for, TABLE, ROW, "x", None, (thing,))
@@ -88,9 +106,9 @@ class Covers(Any):
     def test_sets_of_names(self):
         for thing in (("p", "q", "r"), ("q", "r", "s"), ("p", "q", "r", "s")):
             self.yes(probes.is_cover, LOOSE, thing)
-        for thing in (("q", "p", "r"), ("p", "q", "q", "r"), ("p", "q"), ("p", "q", "r", "x"), "pqr", ["p", "q", "r"], (),
-                      ("p", "q", None), ("p", "q", 1), (("p", "q", "r"),), ("p", "q", ["r"]), (True, "q", "r"), (1, 2, 3),
-                      ("", "p", "q", "r"), long_names(30000), ("p", "q", "r") * 30000):
+        for thing in (("q", "p", "r"), ("p", "q", "q", "r"), ("p", "q"), ("p", "q", "r", "x"), "pqr", ["p", "q", "r"],
+                      (), ("p", "q", None), ("p", "q", 1), (("p", "q", "r"),), ("p", "q", ["r"]), (True, "q", "r"),
+                      (1, 2, 3), ("", "p", "q", "r"), long_names(30000), ("p", "q", "r") * 30000):
             self.no(probes.is_cover, LOOSE, thing)
 
 
@@ -108,8 +126,9 @@ class Rows(Any):
         self.no(probes.is_probe, THREE, (*PROBE[:4], ("get", "x", "t")))
 
     def test_pairs_of_samenesses(self):
-        for thing in ((CELLS, CELLS), (CELLS,), (CELLS, NEAR, CELLS), (CELLS, None), [CELLS, NEAR], (as_lists(CELLS), NEAR),
-                      (CELLS, (("a", "b", "c"), ("d",))), (CELLS, tuple((name,) for name in long_names(30000))), CELLS):
+        for thing in ((CELLS, CELLS), (CELLS,), (CELLS, NEAR, CELLS), (CELLS, None), [CELLS, NEAR],
+                      (as_lists(CELLS), NEAR), (CELLS, (("a", "b", "c"), ("d",))),
+                      (CELLS, tuple((name,) for name in long_names(30000))), CELLS):
             self.no(probes.is_alike_told, TABLE, ROW[:2], thing)
         self.yes(probes.is_alike_told, TABLE, ROW[:2], (CELLS, NEAR))
 

@@ -119,7 +119,8 @@ class Facts(Case):
         facts = (("one", "p", "q"), ("one", "p", "r"), ("one", "q", "r"))
         self.same(package.needless_facts(FREE, facts), facts)
         self.same(package.needless_facts(FREE, facts[:2]), ())
-        self.same(package.needless_facts(TABLE, (("apart", "a", "c"), ("one", "a", "b"))), (("apart", "a", "c"), ("one", "a", "b")))
+        self.same(package.needless_facts(TABLE, (("apart", "a", "c"), ("one", "a", "b"))),
+                  (("apart", "a", "c"), ("one", "a", "b")))
 
 
 class Telling(Case):
@@ -161,7 +162,8 @@ class Telling(Case):
                     self.refused(Unfit, package.made_sure, table, row, fact)
                     continue
                 told = with_facts(table, (fact,))
-                wanted = tuple(spot for spot in spots(row) if is_sure(told, row, spot) and not is_sure(table, row, spot))
+                wanted = tuple(spot for spot in spots(row) if is_sure(told, row, spot)
+                               and not is_sure(table, row, spot))
                 held += len(wanted)
                 self.same(package.made_sure(table, row, fact), wanted, (table, row, fact))
                 self.same(package.made_sure(as_lists(table), as_lists(row), list(fact)), wanted)
@@ -189,7 +191,8 @@ class Fewest(Case):
             name = row[at][1]
 
             def last(lump):
-                return max((place for place in range(at) if row[place][0] == "put" and row[place][1] in lump), default=-1)
+                return max((place for place in range(at) if row[place][0] == "put" and row[place][1] in lump),
+                           default=-1)
 
             lumps = hung(table)
             own = [lump for lump in lumps if name in lump][0]
@@ -276,7 +279,8 @@ class Fewest(Case):
         every = tuple(("apart", *pair) for pair in itertools.combinations("pqrz", 2))
         self.same(package.least_to_same(FREE, puts, puts[::-1]), every)
         self.same(package.fewest_to_same(FREE, puts, puts[::-1]), 6)
-        self.same(package.least_to_same(FREE, (("get", "p", "s"), *puts[1:]), (*puts[1:], ("get", "p", "s"))), every[:3])
+        self.same(package.least_to_same(FREE, (("get", "p", "s"), *puts[1:]), (*puts[1:], ("get", "p", "s"))),
+                  every[:3])
 
 
 def least_of_two(table, row, spot, value):
@@ -300,7 +304,8 @@ class Guarantees(Case):
         for table, row, spot in some_gets():
             if not is_sure(table, row, spot):
                 at = [place for place, deed in enumerate(row) if deed[0] == "get" and deed[2] == spot][0]
-                ahead = [name for word, name, _ in row[:at] if word == "put" and word_of(table, name, row[at][1]) != "apart"]
+                ahead = [name for word, name, _ in row[:at] if word == "put"
+                         and word_of(table, name, row[at][1]) != "apart"]
                 pair = tuple(sorted((ahead[-1], row[at][1])))
                 self.assertIn(pair, package.sure_pairs(table, row, spot, "one"), (table, row, spot))
                 looked += 1

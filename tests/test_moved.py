@@ -176,9 +176,10 @@ class Alike(Case):
     def test_no_way(self):
         far = turned(ROW, 0)
         self.same(package.is_way_between(TABLE, ROW, far, (ROW, far)), True)
-        for thing in ((), (ROW,), (far,), (far, ROW), (ROW, far, far), (ROW, ROW, far), (ROW, far, ROW, far), [ROW, far],
-                      (ROW, list(far)), (list(ROW), far), (ROW, as_lists(far)), (ROW, far[:3]), (ROW[:3], far), None,
-                      (ROW, turned(ROW, 1)), (ROW, (("put", "a", True), *ROW[1:])), ROW, (ROW, None), "a", 1, ((), ())):
+        for thing in ((), (ROW,), (far,), (far, ROW), (ROW, far, far), (ROW, ROW, far), (ROW, far, ROW, far),
+                      [ROW, far], (ROW, list(far)), (list(ROW), far), (ROW, as_lists(far)), (ROW, far[:3]),
+                      (ROW[:3], far), None, (ROW, turned(ROW, 1)), (ROW, (("put", "a", True), *ROW[1:])), ROW,
+                      (ROW, None), "a", 1, ((), ())):
             self.same(package.is_way_between(TABLE, ROW, far, thing), False, thing)
         # True is no number, though it equals 1.
         bent = tuple(("put", "a", True) if deed == ("put", "a", 1) else deed for deed in far)
@@ -219,7 +220,8 @@ class Held(Case):
     def test_longest_held(self):
         for table, row in loose_rows() + some_rows():
             pairs = held(table, row)
-            chains = [chain for chain in subsets(range(len(row))) if all(pair in pairs for pair in zip(chain, chain[1:]))]
+            chains = [chain for chain in subsets(range(len(row)))
+                      if all(pair in pairs for pair in zip(chain, chain[1:]))]
             wanted = min(chains, key=lambda chain: (-len(chain), chain))
             self.same(package.longest_held(table, row), wanted, (table, row))
             self.same(package.fewest_steps(table, row), len(wanted), (table, row))
@@ -285,9 +287,10 @@ class Steps(Case):
     def test_odd_numbers(self):
         self.same(package.is_steps(TABLE, ROW, ((0, 1), (2,), (3,))), True)
         for thing in (((False, True), (2,), (3,)), ((0, True), (2,), (3,)), ((0, 1), (2,), (3,), (4,)), ((0, 1), (2,)),
-                      ((0, 1), (2,), (-1,)), ((1, 0), (2,), (3,)), ((0, 0, 1), (2,), (3,)), ((0, 1), 2, 3), (0, 1, 2, 3),
-                      ((0, 1), (2, 3)), ((0, 1), (3,), (2,)), ([0, 1], (2,), (3,)), ((0, 1), ("2",), (3,)), "0123",
-                      ((0, 1), (2,), (10 ** 400,)), ((0, 1), (None,), (3,)), (((0, 1),), (2,), (3,)), ((0, 1), (2,), ())):
+                      ((0, 1), (2,), (-1,)), ((1, 0), (2,), (3,)), ((0, 0, 1), (2,), (3,)), ((0, 1), 2, 3),
+                      (0, 1, 2, 3), ((0, 1), (2, 3)), ((0, 1), (3,), (2,)), ([0, 1], (2,), (3,)),
+                      ((0, 1), ("2",), (3,)), "0123", ((0, 1), (2,), (10 ** 400,)), ((0, 1), (None,), (3,)),
+                      (((0, 1),), (2,), (3,)), ((0, 1), (2,), ())):
             self.same(package.is_steps(TABLE, ROW, thing), False, thing)
 
 

@@ -70,7 +70,8 @@ class Plain(Case):
         for table, row in loose_rows() + some_rows():
             rest, found = list(row), []
             while rest:
-                free = [deed for place, deed in enumerate(rest) if all(passes(table, deed, one) for one in rest[:place])]
+                free = [deed for place, deed in enumerate(rest)
+                        if all(passes(table, deed, one) for one in rest[:place])]
                 found.append(min(free))
                 rest.remove(min(free))
             self.same(package.plain_row(table, row), tuple(found), (table, row))
@@ -181,9 +182,10 @@ class Forms(Case):
         deeds = WIDE[:2]
         self.same(package.is_form(APART, deeds, deeds), True)
         self.same(package.is_form(APART, deeds, deeds[::-1]), True)
-        for thing in ((("put", "p", True), ("put", "p", 2)), (deeds[0], ["put", "p", 2]), (deeds[0], deeds[0]), (), None,
-                      (deeds[0], ("put", "q", 2)), (deeds[0], ("put", "p", 2, 2)), deeds * 2, deeds * 30000, "ab", 2, (1, 2),
-                      (deeds[0], ("get", "p", "a")), (deeds,), (deeds[0], None), (deeds[0], ("put", "x", 2))):
+        for thing in ((("put", "p", True), ("put", "p", 2)), (deeds[0], ["put", "p", 2]), (deeds[0], deeds[0]), (),
+                      None, (deeds[0], ("put", "q", 2)), (deeds[0], ("put", "p", 2, 2)), deeds * 2, deeds * 30000, "ab",
+                      2, (1, 2), (deeds[0], ("get", "p", "a")), (deeds,), (deeds[0], None),
+                      (deeds[0], ("put", "x", 2))):
             self.same(package.is_form(APART, deeds, thing), False, thing)
         self.same(package.is_form(APART, (), ()), True)
 

@@ -30,8 +30,10 @@ def tells_all(table, row):
 def covers(table):
     """All COVERS, those with fewer names first, each time ascending."""
     lumps = hung(table)
-    pairs = [(one, other) for one, other in itertools.combinations(lumps, 2) if word_of(table, one[0], other[0]) != "apart"]
-    return tuple(some for some in subsets_by_size(table[0]) if all(set(some) & set(one + other) for one, other in pairs))
+    pairs = [(one, other) for one, other in itertools.combinations(lumps, 2)
+             if word_of(table, one[0], other[0]) != "apart"]
+    return tuple(some for some in subsets_by_size(table[0])
+                 if all(set(some) & set(one + other) for one, other in pairs))
 
 
 @functools.lru_cache(maxsize=None)

@@ -4,8 +4,9 @@ import copy
 import inspect
 import itertools
 
-from aliasrows import beside, more, moved, needless, orders, plainrow, probes, rows, samenesses, sure, tables
-from aliasrows.errors import CanNot, Known, NoName, NoNumber, NoSpot, Unfit
+from aliasrows import beside, desk, more, moved, needless, orders, plainrow, probes, readings, rows, samenesses, sure
+from aliasrows import tables, texts
+from aliasrows.errors import BadLine, BadText, CanNot, Known, NoName, NoNumber, NoSpot, Unfit
 from tests.helper import Case, as_lists, in_turns, some_rows, told_by
 from tests.test_interface import FUNCTIONS
 
@@ -35,8 +36,11 @@ DEEDS = (("get", "a", "s"), ("put", "a", 1), ("put", "c", 2), ("put", "d", 1))
 FACTS = (("apart", "a", "d"), ("one", "c", "d"))
 AT_Y = {**OF_MOVING, "spot": "y"}
 PROBE = (("put", "d", 0), ("put", "a", 1), ("put", "c", 2), ("get", "d", "d"))
+READINGS = ((MOVING, (("y", 1),)), (PROBE, (("d", 2),)), ((("put", "a", 0), ("get", "b", "t")), (("t", 0),)))
+READ = {"table": TABLE, "readings": READINGS}
+READ_ONE = {"table": TABLE, "readings": READINGS[::2]}
 
-# For each function what it is handed, by the names of points 4 to 14, in their order.
+# For each function what it is handed, by the names of points 4 to 18, in their order.
 CALLS = (
     (tables.is_table, {"thing": TABLE}),
     (tables.names_of, {"table": TABLE}),
@@ -217,6 +221,31 @@ CALLS = (
     (probes.is_probe, {"table": TABLE, "thing": PROBE}),
     (probes.sameness_by, {"table": TABLE, "row": PROBE, "told": (("d", 2),)}),
     (probes.told_back, {"table": TABLE, "asker": lambda row: told_by(row, FAR)}),
+    (readings.is_readings, {"table": TABLE, "thing": READINGS}),
+    (readings.reading_of, {**OF_MOVING, "sameness": NEAR}),
+    (readings.fits, {**READ, "sameness": NEAR}),
+    (readings.all_that_fit, READ),
+    (readings.how_many_fit, READ_ONE),
+    (readings.first_lie, {**READ, "readings": READINGS + ((PROBE, (("d", 1),)),)}),
+    (readings.ones_by, READ),
+    (readings.aparts_by, READ_ONE),
+    (readings.open_by, READ_ONE),
+    (readings.table_by, READ),
+    (readings.is_whole, READ_ONE),
+    (readings.will_tell, {**READ_ONE, "row": PROBE}),
+    (readings.parts_by, {**READ_ONE, "row": PROBE}),
+    (readings.is_useless, {**READ_ONE, "row": MOVING}),
+    (readings.worst_left, {**READ_ONE, "name": "c"}),
+    (readings.next_get, READ_ONE),
+    (readings.spare_readings, READ),
+    (texts.table_text, {"table": TABLE}),
+    (texts.table_in, {"text": "a b c d; a=b; b/c"}),
+    (texts.row_text, {"row": MOVING}),
+    (texts.row_in, {"text": "a:=1 c>x d:=-2"}),
+    (texts.cells_text, {"cells": NEAR}),
+    (texts.cells_in, {"text": "a b; c d"}),
+    (desk.is_request, {"thing": "apart a b"}),
+    (desk.replies, {"names": ("a", "b"), "text": "put a 1\nleft b\none a b\nsure"}),
 )
 
 # Calls that raise, with what they raise.
@@ -267,6 +296,14 @@ REFUSED = (
     (more.are_facts_for, (TABLE, MOVING, "a", None, ()), NoSpot, {"spot": "a"}),
     (probes.sameness_by, (TABLE, PROBE, (("d", 7),)), CanNot, {}),
     (probes.sameness_by, (TABLE, PROBE[:3], ()), Unfit, {}),
+    (readings.ones_by, (TABLE, (READINGS[1], (PROBE, (("d", 1),)))), Unfit, {}),
+    (readings.worst_left, (TABLE, ((PROBE, ()),), "x"), NoName, {"name": "x"}),
+    (readings.worst_left, (TABLE, ((PROBE, ()),), "a"), Unfit, {}),
+    (readings.next_get, (TABLE, ((PROBE, ()),)), Unfit, {}),
+    (texts.table_in, ("a b; a=b; a/b",), BadText, {}),
+    (texts.row_in, ("a>s b>s",), BadText, {}),
+    (texts.cells_in, ("b; a",), BadText, {}),
+    (desk.replies, (("a", "b"), "row\nlook"), BadLine, {"number": 1}),
 )
 
 
