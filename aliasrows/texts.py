@@ -58,11 +58,12 @@ def row_in(text):
 
 def _deed_in(word):
     """The DEED with this text."""
-    name, sign, number = word.partition(":=")
-    if sign == ":=" and is_name(name) and is_number_text(number):
+    # Without the sign nothing stands behind it: neither a number nor a spot.
+    name, _, number = word.partition(":=")
+    if is_name(name) and is_number_text(number):
         return ("put", name, int(number))
-    name, sign, spot = word.partition(">")
-    if sign == ">" and is_name(name) and is_name(spot):
+    name, _, spot = word.partition(">")
+    if is_name(name) and is_name(spot):
         return ("get", name, spot)
     raise BadText()
 

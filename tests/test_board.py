@@ -266,6 +266,18 @@ class Equality(Case):
         self.assertFalse(one == other)
         self.assertTrue(one != other)
 
+    def test_rows_that_do_the_same_are_not_enough(self):
+        one, other = Board(NAMES), Board(NAMES)
+        one.get("a", "s")
+        self.assertTrue(one != other)
+        self.assertFalse(one == other)
+        other.get("b", "s")
+        self.same(one.same(other.row()), True)
+        self.assertTrue(one != other)
+        other.undo()
+        other.get("a", "s")
+        self.assertTrue(one == other)
+
     def test_same_samenesses_are_not_enough(self):
         one, other = Board(NAMES), Board(NAMES)
         for board, pairs in ((one, (("a", "b"), ("b", "c"))), (other, (("a", "b"), ("a", "c")))):

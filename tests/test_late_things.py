@@ -33,15 +33,8 @@ ASKED = (
 
 
 class Things(Any):
-    def test_odd_things(self):
-        for call, ahead, _ in ASKED:
-            self.check_odd(call, *ahead)
-            self.check_odd(call, *as_lists(ahead))
-
-    def test_one_part_changed(self):
-        for call, ahead, thing in ASKED:
-            self.check_spoiled(call, thing, *ahead)
-            self.check_spoiled(call, thing, *as_lists(ahead))
+    def test_odd_things_and_bent_ones(self):
+        self.check_asked(ASKED)
 
     def test_things_of_another_kind(self):
         for (call, ahead, _), (_, _, odd) in itertools.product(ASKED, repeat=2):

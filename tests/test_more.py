@@ -389,6 +389,8 @@ class Errors(Case):
                 self.refused(NoSpot, call, as_lists(TABLE), as_lists(ROW), spot, *handed, spot=spot)
             self.refused(NoSpot, call, TABLE, (), "x", *handed, spot="x")
             self.refused(NoSpot, call, TABLE, ROW[:1], "a", *handed, spot="a")
+            # Also where no pair is left to be told.
+            self.refused(NoSpot, call, (("a", "d"), (("a", "d"),), ()), ROW[::2], "x", *handed, spot="x")
 
     def test_unfit(self):
         for facts in ((("one", "a", "c"),), (("one", "a", "d"), ("one", "c", "d")), (("apart", "a", "b"),),

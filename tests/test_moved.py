@@ -173,6 +173,17 @@ class Alike(Case):
                 self.same(package.is_way_between(table, row, way[-1], way), False)
         self.assertGreater(min(counts.values()), 300)
 
+    def test_ways_from_and_to_others(self):
+        counts = {True: 0, False: 0}
+        for table, row in loose_rows():
+            group = sorted(alike(table, row))[:4]
+            for one, other in itertools.product(group, repeat=2):
+                way = package.way_between(table, one, other)
+                for start, end in itertools.product(group, repeat=2):
+                    counts[(start, end) == (one, other)] += 1
+                    self.same(package.is_way_between(table, start, end, way), (start, end) == (one, other), (table, way))
+        self.assertGreater(min(counts.values()), 500)
+
     def test_no_way(self):
         far = turned(ROW, 0)
         self.same(package.is_way_between(TABLE, ROW, far, (ROW, far)), True)

@@ -61,6 +61,13 @@ class Any(Case):
             self.no(call, *ahead, other)
         self.no(call, *ahead, as_lists(thing))
 
+    def check_asked(self, asked):
+        """Each function tells what is handed behind its other arguments from all odd things, and from it bent."""
+        for call, ahead, thing in asked:
+            for handed in (ahead, as_lists(ahead)):
+                self.check_odd(call, *handed)
+                self.check_spoiled(call, thing, *handed)
+
 
 class IsTable(Any):
     def test_odd_things(self):
